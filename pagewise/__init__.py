@@ -1,0 +1,1 @@
+"""Pagewise: sorted joins, page by page, without making the join."""

@@ -1,0 +1,1 @@
+"""What all parts of the package rest on: names and rows."""

@@ -1,0 +1,1 @@
+"""Queries: which tables are joined, and which columns are shown."""

@@ -1,0 +1,1 @@
+"""Tables of a query, and their answers."""
