@@ -1,8 +1,10 @@
 """Values and checks that several tests use."""
 
+import itertools
 import random
 import unittest
 
+from pagewise.orders.good import good_orders
 from pagewise.queries.queries import Query
 from pagewise.shapes.rings import rings
 from pagewise.tables.answers import answers
@@ -107,3 +109,34 @@ def are_near(query, first, second):
 def have_home(query, columns):
     """Whether some atom has all of the columns."""
     return any(set(columns) <= set(own) for own in query.atoms.values())
+
+
+def all_orders(query):
+    """All orders of the query, ascending."""
+    return [query.shown + behind for behind in itertools.permutations(query.hidden)]
+
+
+def good_by_words(query, order):
+    """Whether an order is good, by the words of the document."""
+    return all(have_home(query, [column] + [one for one in order[:at] if are_near(query, one, column)])
+               for at, column in enumerate(order))
+
+
+def good_cases(many, *, seed, most_columns=6, most_orders=3):
+    """Small queries, tables of them with answers in most cases, and some of their good orders."""
+    chance = random.Random(seed)
+    found = []
+    for query in random_queries(many, seed=seed, most_columns=most_columns):
+        tables = random_tables(chance, query, most_rows=9, values=chance.choice((2, 2, 3)))
+        found += [(query, tables, order) for order in itertools.islice(good_orders(query), most_orders)]
+    return found
+
+
+def wide_query(*, down=()):
+    """Ten atoms with one column each, all shown."""
+    return Query.of(LETTERS[:10], {"t" + column: (column,) for column in LETTERS[:10]}, down=down)
+
+
+def wide_tables():
+    """A thousand rows for each atom of a wide query: the numbers from 0 to 999."""
+    return {"t" + column: tuple((number,) for number in range(1000)) for column in LETTERS[:10]}

@@ -4,6 +4,15 @@ import doctest
 import unittest
 
 from pagewise.base.rows import before, is_name, is_row, place_of, sorted_rows
+from pagewise.layers.forests import children, ends, layer_columns, open_columns, parents
+from pagewise.layers.layers import is_layers, layers, total
+from pagewise.live.cursors import Cursor
+from pagewise.live.live import Live
+from pagewise.orders.beginnings import (beginning_paper, completed, count_sort_orders, is_beginning_paper,
+                                        longest_beginning, sort_orders)
+from pagewise.orders.good import good_order, good_orders, homes, is_good, is_order_paper, order_paper
+from pagewise.pages.pages import Pages
+from pagewise.pages.sums import cuts, extremes, groups, middle, sum_of, tally
 from pagewise.queries.queries import Query
 from pagewise.shapes.neighbours import home, home_of, neighbours, parts, way
 from pagewise.shapes.rings import is_ring, is_shell, rings, shells
@@ -58,11 +67,73 @@ WITNESS_EXAMPLES = """
 [True, True, True]
 """
 
+ORDER_EXAMPLES = """
+>>> [homes(FAR, ("x", "z", "y")), list(good_orders(FAR.with_shown("z"))), good_order(TRIO), is_good(BRIDGE, ("x", "y", "z"))]
+[{'x': 'r', 'y': 's', 'z': 'r'}, [('z', 'x', 'y'), ('z', 'y', 'x')], None, False]
+>>> [order_paper(TRIO), order_paper(FAR), is_order_paper(BRIDGE, ("bridge", ("y", "z", "x")))]
+[('trio', ('x', 'y', 'z')), ('order', ('x', 'z', 'y')), True]
+"""
+
+BEGINNING_EXAMPLES = """
+>>> [completed(TRIO, ("x",)), completed(TRIO, ("x", "y")), longest_beginning(TRIO, ("x", "y", "z")), list(sort_orders(TRIO))]
+[('x', 'z', 'y'), None, ('x',), [('x', 'z', 'y'), ('y', 'z', 'x'), ('z', 'x', 'y'), ('z', 'y', 'x')]]
+>>> [is_beginning_paper(TRIO, ("x", "y"), paper) for paper in [("bridge", ("y", "z", "x")), ("trio", ("x", "y", "z")), ("sort", ("x", "y", "z"))]]
+[True, False, False]
+>>> [count_sort_orders(BRIDGE), longest_beginning(BRIDGE, ("x",))]
+[0, None]
+"""
+
+LAYER_EXAMPLES = """
+>>> order = ("x", "z", "y")
+>>> [parents(FAR, order), layer_columns(FAR, order)["y"], ends(FAR, order)["z"], open_columns(FAR, order, 1)]
+[{'x': None, 'y': 'z', 'z': 'x'}, ('z', 'y'), ('r',), ('z',)]
+>>> [layers(FAR, ROWS, order)["z"], layers(FAR, ROWS, order)["x"], total(FAR, ROWS)]
+[{(1, 1): 1, (1, 2): 2, (2, 2): 2}, {(1,): 3, (2,): 2}, 5]
+"""
+
+PAGE_EXAMPLES = """
+>>> pages = Pages(FAR, ROWS)
+>>> [pages.total, pages[2], pages.position_of((1, 3, 0)), pages.after((1, 3, 0)), pages.ahead_of((1, 1, 5))]
+[5, (1, 2, 6), 3, (2, 2, 5), None]
+>>> [pages.span((1, 2)), pages.between((1, 2, 0), (2, 2, 5)), pages.page(1, size=3), Pages(~FAR, ROWS)[0]]
+[(1, 3), 3, ((2, 2, 5), (2, 2, 6)), (2, 2, 6)]
+"""
+
+SUM_EXAMPLES = """
+>>> pages = Pages(FAR, ROWS)
+>>> [list(groups(pages, (1,))), sum_of(pages, "y"), sum_of(pages, "y", (1,)), extremes(pages, "z", (2,))]
+[[(1, 1), (2, 2)], 27, 16, (2, 2)]
+>>> [tally(pages, "y"), tally(pages, "z", (1,)), middle(pages), middle(pages, (2,)), cuts(pages, 2)]
+[{5: 3, 6: 2}, {1: 1, 2: 2}, (1, 2, 6), (2, 2, 5), (0, 2, 5)]
+"""
+
+LIVE_EXAMPLES = """
+>>> live = Live(FAR, tables=ROWS)
+>>> [live.put("s", (2, 4)), live.total, live[1], live.drop("r", (1, 1)), live.total, live.steps, live.undo(many=2), str(live)]
+[True, 7, (1, 2, 4), True, 6, 2, 0, 'live pages of 5 answers, 0 steps']
+>>> [live.attempt(lambda book: book.change((("drop", "s", (1, 5)), ("drop", "s", (2, 5)), ("drop", "s", (3, 5))))), live.total, live.redo(), live.log]
+[2, 5, 1, ((('put', 's', (2, 4)),),)]
+"""
+
+CURSOR_EXAMPLES = """
+>>> live = Live(FAR, tables=ROWS)
+>>> cursor = Cursor(live)
+>>> [cursor.at(2), live.put("r", (1, 0)), live.put("s", (0, 9)), cursor.row, str(cursor)]
+[(1, 2, 6), True, True, (1, 2, 6), 'cursor at 3 of 6']
+>>> [live.drop("s", (2, 6)), cursor.row, cursor.anchor, cursor.position, live.undo(), cursor.row]
+[True, (2, 2, 5), (1, 2, 6), 3, 2, (1, 2, 6)]
+>>> [cursor.take(size=2), cursor.row, cursor.back(), cursor.to((1, 1, 6)), cursor.to_end(), cursor.back()]
+[((1, 2, 6), (2, 2, 5)), (2, 2, 6), (2, 2, 5), (1, 2, 5), None, (2, 2, 6)]
+"""
+
 # All that has landed of the interface, so that each name is imported from its module.
 NAMES = (
     before, is_name, is_row, place_of, sorted_rows, Query, home, home_of, neighbours, parts, way,
     is_ring, is_shell, rings, shells, bridges, is_bridge, is_trio, is_witness, trios, witness, witnesses,
     answers, count_answers, is_answer, solutions, chosen, chosen_by, is_tables, tables_by, tables_from, values_of,
+    good_order, good_orders, homes, is_good, is_order_paper, order_paper, beginning_paper, completed, count_sort_orders,
+    is_beginning_paper, longest_beginning, sort_orders, children, ends, layer_columns, open_columns, parents,
+    is_layers, layers, total, Pages, cuts, extremes, groups, middle, sum_of, tally, Live, Cursor,
 )
 
 
@@ -96,6 +167,27 @@ class Examples(unittest.TestCase):
 
     def test_witnesses(self):
         self.run_examples(WITNESS_EXAMPLES)
+
+    def test_good_orders(self):
+        self.run_examples(ORDER_EXAMPLES)
+
+    def test_beginnings(self):
+        self.run_examples(BEGINNING_EXAMPLES)
+
+    def test_layers(self):
+        self.run_examples(LAYER_EXAMPLES)
+
+    def test_pages(self):
+        self.run_examples(PAGE_EXAMPLES)
+
+    def test_sums(self):
+        self.run_examples(SUM_EXAMPLES)
+
+    def test_live_tables(self):
+        self.run_examples(LIVE_EXAMPLES)
+
+    def test_cursors(self):
+        self.run_examples(CURSOR_EXAMPLES)
 
 
 if __name__ == "__main__":

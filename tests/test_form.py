@@ -40,7 +40,31 @@ INTERFACE = {
     "pagewise.shapes.neighbours": "neighbours home home_of parts way",
     "pagewise.shapes.rings": "is_ring rings is_shell shells",
     "pagewise.shapes.witnesses": "is_bridge bridges is_trio trios witness is_witness witnesses",
+    "pagewise.orders.good": "is_good homes good_order good_orders order_paper is_order_paper",
+    "pagewise.orders.beginnings": "completed beginning_paper is_beginning_paper sort_orders count_sort_orders "
+                                  "longest_beginning",
+    "pagewise.layers.forests": "parents children ends layer_columns open_columns",
+    "pagewise.layers.layers": "layers is_layers total",
+    "pagewise.pages.pages": "Pages",
+    "pagewise.pages.sums": "groups sum_of extremes tally middle cuts",
+    "pagewise.live.live": "Live",
+    "pagewise.live.cursors": "Cursor",
 }
+METHODS_OF = {
+    "pagewise.queries.queries.Query": "of shown down atoms columns hidden atom having with_atom with_atom_of without_atom "
+                                      "with_shown with_shown_of renamed renamed_by __or__ __invert__ __contains__ __len__ "
+                                      "__str__ __eq__",
+    "pagewise.pages.pages.Pages": "query tables order total __bool__ __getitem__ __contains__ position_of after ahead_of "
+                                  "between span starts page walk __eq__ __str__",
+    "pagewise.live.live.Live": "query tables total steps log put drop change undo redo __getitem__ __contains__ "
+                               "position_of pages trial attempt __eq__ __str__",
+    "pagewise.live.live.Trial": "keep __enter__ __exit__",
+    "pagewise.live.cursors.Cursor": "anchor row position onward back at to to_end take rest twin __eq__ __str__",
+}
+BARRED_ATTRIBUTES = set("""items keys values pop update append clear extend insert remove reverse setdefault sort args encode
+    decode hex fromhex format""".split())
+CHANGING = set("append clear extend insert pop remove reverse setdefault update sort add discard".split())
+MAKING = set("list dict sorted".split())
 
 
 def files():
@@ -134,6 +158,13 @@ class Imports(unittest.TestCase):
                 self.assertEqual(getattr(importlib.import_module(name), word).__module__, name)
 
 
+    def test_methods_stand_in_their_classes(self):
+        for name, words in METHODS_OF.items():
+            module, _, one = name.rpartition(".")
+            own = vars(getattr(importlib.import_module(module), one))
+            self.assertEqual([word for word in words.split() if word not in own], [], name)
+
+
 class Statements(unittest.TestCase):
     def test_module_level(self):
         kinds = (ast.ImportFrom, ast.FunctionDef, ast.ClassDef, ast.Assign)
@@ -187,6 +218,74 @@ class Calls(unittest.TestCase):
         for one in functions:
             if any(isinstance(node, (ast.Yield, ast.YieldFrom)) for node in ast.walk(one)):
                 self.assertEqual([other.lineno for other in functions if other.name == one.name], [one.lineno])
+
+    def test_attributes_have_names_of_their_own(self):
+        methods = {node.name for _, tree in trees() for one in ast.walk(tree) if isinstance(one, ast.ClassDef)
+                   for node in one.body if isinstance(node, ast.FunctionDef)}
+        for path, tree in trees():
+            for node in ast.walk(tree):
+                if isinstance(node, ast.Attribute) and isinstance(node.ctx, ast.Store):
+                    self.assertNotIn(node.attr, methods | BARRED_ATTRIBUTES, (path, node.lineno))
+
+    def test_what_is_reversed_is_a_list_or_a_range(self):
+        for path, tree in trees():
+            for node in ast.walk(tree):
+                if isinstance(node, ast.Call) and ast.unparse(node.func) == "reversed":
+                    self.assertRegex(ast.unparse(node.args[0]), r"^(list|range)\(", (path, node.lineno))
+
+
+class Purity(unittest.TestCase):
+    """What operators and properties run changes nothing but lists and dicts that it makes itself."""
+
+    def setUp(self):
+        self.functions, self.methods = {}, {}
+        for path, tree in trees():
+            for one in tree.body:
+                if isinstance(one, ast.FunctionDef):
+                    self.functions.setdefault(one.name, []).append((path, one))
+                for node in one.body if isinstance(one, ast.ClassDef) else ():
+                    if isinstance(node, ast.FunctionDef):
+                        self.methods.setdefault(node.name, []).append((path, node))
+
+    def is_start(self, node):
+        operator = node.name.startswith("__") and node.name not in ("__init__", "__enter__", "__exit__")
+        return operator or any(ast.unparse(one) == "property" for one in node.decorator_list)
+
+    def reached(self, function):
+        """The functions and methods that a function can run, by their names."""
+        for node in ast.walk(function):
+            if isinstance(node, ast.Name):
+                yield from self.functions.get(node.id, [])
+            elif isinstance(node, ast.Attribute):
+                yield from self.methods.get(node.attr, [])
+
+    def test_nothing_is_changed(self):
+        queue = [one for found in self.methods.values() for one in found if self.is_start(one[1])]
+        seen = []
+        while queue:
+            path, node = queue.pop()
+            if node not in seen:
+                seen.append(node)
+                self.check(path, node)
+                queue.extend(self.reached(node))
+        self.assertIn("answer_at", [node.name for node in seen])
+
+    def check(self, path, function):
+        passed = {one.arg for one in (*function.args.args, *function.args.kwonlyargs)} - {"cls"}
+        made = {ast.unparse(node.targets[0]) for node in ast.walk(function) if isinstance(node, ast.Assign)
+                and (isinstance(node.value, (ast.List, ast.Dict, ast.ListComp)) or isinstance(node.value, ast.Call)
+                     and ast.unparse(node.value.func) in MAKING)}
+        for node in ast.walk(function):
+            where = (path, getattr(node, "lineno", 0))
+            self.assertNotIsInstance(node, (ast.Lambda, ast.Delete, ast.Nonlocal), where)
+            if isinstance(node, (ast.Attribute, ast.Subscript)):
+                self.assertTrue(isinstance(node.ctx, ast.Load) or ast.unparse(node.value) in made, where)
+            if isinstance(node, ast.AugAssign):
+                self.assertIsInstance(node.value, ast.Constant, where)
+            if isinstance(node, ast.Call) and isinstance(node.func, ast.Name):
+                self.assertNotIn(node.func.id, passed, where)
+            if isinstance(node, ast.Call) and isinstance(node.func, ast.Attribute) and node.func.attr in CHANGING:
+                self.assertIn(ast.unparse(node.func.value), made, where)
 
 
 if __name__ == "__main__":

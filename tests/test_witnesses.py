@@ -8,8 +8,8 @@ from pagewise.errors import InvalidQuery
 from pagewise.queries.queries import Query
 from pagewise.shapes.rings import rings, shells
 from pagewise.shapes.witnesses import bridges, is_bridge, is_trio, is_witness, trios, witness, witnesses
-from tests.cases import (BRIDGE, FAR, LETTERS, RING, SHELL, TRIO, Case, are_near, have_home, odd_except, odd_values,
-                         random_queries)
+from tests.cases import (BRIDGE, FAR, LETTERS, RING, SHELL, TRIO, Case, all_orders, are_near, good_by_words, odd_except,
+                         odd_values, random_queries)
 
 TEN = LETTERS[:10]
 CHAIN = Query.of(("j", "a"), {"t" + one: (two, one) for one, two in zip(TEN, TEN[1:])})
@@ -34,13 +34,7 @@ def trio_by_words(query, columns):
 
 
 def has_good_order(query):
-    """By going through all orders."""
-    for behind in itertools.permutations(query.hidden):
-        order = query.shown + behind
-        if all(have_home(query, [column] + [one for one in order[:at] if are_near(query, one, column)])
-               for at, column in enumerate(order)):
-            return True
-    return False
+    return any(good_by_words(query, order) for order in all_orders(query))
 
 
 class Bridges(Case):

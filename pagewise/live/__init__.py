@@ -1,0 +1,1 @@
+"""Tables that change, and cursors that stay at their answers."""

@@ -1,0 +1,1 @@
+"""Pages of answers, and sums over them, without making the answers."""
