@@ -120,6 +120,7 @@ class Ordinary(Case):
         self.assertEqual([cursor.at(10 ** 29), cursor.onward()], [(100,) + (0,) * 9, (100,) + (0,) * 8 + (1,)])
         self.assertEqual([cursor.to((499,) * 10), str(cursor)], [(499,) * 10, f"cursor at {'499' * 10} of {10 ** 30}"])
         self.assertEqual([len(cursor.take(size=1000)), cursor.row], [1000, (499,) * 8 + (500, 499)])
+        self.assertEqual([len(cursor.take()), cursor.row], [10, (499,) * 8 + (500, 509)])
 
 
 class Changes(Case):

@@ -11,6 +11,7 @@ from pagewise.layers.layers import layers
 from pagewise.live.live import Live
 from pagewise.orders.good import good_orders
 from pagewise.pages.pages import Pages
+from pagewise.pages.sums import middle, sum_of
 from pagewise.queries.queries import Query
 from pagewise.shapes.witnesses import is_witness
 from pagewise.tables.answers import answers
@@ -170,6 +171,11 @@ class Compared(Case):
         self.assertEqual([live.position_of(row) for row in rows], list(range(len(rows))))
         self.assertTrue(all(row in live for row in rows))
         self.assertEqual(list(live.pages().walk()), rows)
+        self.assertEqual(middle(live.pages()), rows[(len(rows) - 1) // 2] if rows else None)
+        for at, column in enumerate(live.query.shown):
+            self.assertEqual(sum_of(live.pages(), column), sum(row[at] for row in rows))
+        for values in (row[:1] for row in rows):
+            self.assertEqual(live.pages().starts(values), len([row for row in rows if row[:1] == values]))
         self.keeps(InvalidNumber, "value", len(rows), live.__getitem__, len(rows))
 
     def test_random_edits(self):
@@ -287,6 +293,7 @@ class Errors(Case):
         for tables in odd_except(lambda one: one is None or one is ROWS):
             for query in (FAR, TRIO):
                 self.fails(InvalidTables, Live, query, tables=tables)
+        self.fails(InvalidTables, Live, ONE, tables={"r": (*FULL["r"], (1000,))})
 
     def test_no_good_order(self):
         for query in (TRIO, BRIDGE, RING, SHELL):

@@ -299,6 +299,9 @@ class Errors(Case):
             for query in (FAR, TRIO):
                 self.fails(InvalidTables, Pages, query, tables)
                 self.fails(InvalidTables, Pages, query, tables, order=("x", "y", "z"))
+        many = tuple((number,) for number in range(1001))
+        self.assertEqual(Pages(Query(("x",), r=("x",)), {"r": many[:1000]}).total, 1000)
+        self.fails(InvalidTables, Pages, Query(("x",), r=("x",)), {"r": many})
 
     def test_wrong_order(self):
         for order in (("x", "y", "z"), ("z", "x", "y"), list(ORDER), *odd_except(lambda one: one is None)):

@@ -108,7 +108,8 @@ def differences(old, new):
     """Return the list of the rows that went, and of those that came."""
     if old == new:
         return [], []
-    before, behind = set(old), set(new)
+    before = set(old)
+    behind = set(new)
     return [row for row in old if row not in behind], [row for row in new if row not in before]
 
 
@@ -162,10 +163,10 @@ def place_in(ranked, value):
     return low
 
 
-def renewed(shelves, groups, is_shown):
-    """Return the shelves with new numbers behind some rows, sharing the others."""
-    made = {first: shelf for first, shelf in shelves.items() if first not in groups}
-    for first, numbers in groups.items():
+def renewed(shelves, fresh, is_shown):
+    """Return the shelves with fresh numbers behind some rows, sharing the others."""
+    made = {first: shelf for first, shelf in shelves.items() if first not in fresh}
+    for first, numbers in fresh.items():
         old = shelves[first].numbers if first in shelves else {}
         left = {value: number for value, number in {**old, **numbers}.items() if number > 0}
         if left:

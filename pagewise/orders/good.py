@@ -71,7 +71,8 @@ def earlier_neighbours(query, order):
 def fits(atoms, column, others):
     """Return whether some atom has the column and all of its neighbours among the others."""
     own = [columns for columns in atoms if column in columns]
-    near = [other for other in others if other != column and any([other in columns for columns in own])]
+    # The column itself can be one of the others: all of its atoms have it.
+    near = [other for other in others if any([other in columns for columns in own])]
     return are_covered(own, near)
 
 
@@ -106,7 +107,6 @@ def orders_from(query, first, columns):
     """Yield all tuples that go on from the first columns with the others so that each one fits, ascending."""
     if continued(query, first, columns) is None:
         return
-    atoms = list(query.atoms.values())
     known = {}
     stack = [first]
     while stack:
@@ -116,6 +116,7 @@ def orders_from(query, first, columns):
         # What can come next depends on which columns stand there, not on their order.
         there = tuple(sorted(order))
         if there not in known:
-            known[there] = [column for column in sorted(columns, reverse=True) if column not in there
-                            and fits(atoms, column, there) and ending(query, (*there, column), columns) is not None]
+            # An ending of those that stand there has each of the others behind them, so each one fits there.
+            known[there] = [column for column in sorted(columns, reverse=True)
+                            if column not in there and ending(query, (*there, column), columns) is not None]
         stack.extend([(*order, column) for column in known[there]])

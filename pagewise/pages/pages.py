@@ -3,8 +3,8 @@
 from pagewise.base.rows import is_integer
 from pagewise.errors import InvalidNumber
 from pagewise.layers.counts import Counts
-from pagewise.pages.places import (answer_at, answer_of, answers_from, check_shown_row, check_values, checked_counts,
-                                   has_answer, position_in, told_place)
+from pagewise.pages.places import (answer_at, answer_of, answers_from, check_values, checked_counts, has_answer,
+                                   position_in, told_place)
 
 MAX_SIZE = 1000
 
@@ -52,10 +52,9 @@ class Pages:
 
     def between(self, first, last):
         """Return the number of answers that stand neither before the first row nor behind the last one."""
-        check_shown_row(self._counts, first)
-        check_shown_row(self._counts, last)
-        before, number = told_place(self._counts, last)
-        return max(0, before + number - position_in(self._counts, first))
+        before = position_in(self._counts, first)
+        behind = position_in(self._counts, last) + told_place(self._counts, last)[1]
+        return max(0, behind - before)
 
     def span(self, values=()):
         """Return the first position of the answers that begin with the values, and the one behind them."""

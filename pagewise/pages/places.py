@@ -56,7 +56,7 @@ def told_place(counts, values):
             shelf = shelf_at(counts, at, inside)
             each = number // shelf.weight
             before = before + each * shelf.sums[place_in(shelf.ranked, value)]
-            number = each * shelf.numbers.get(value, 0)
+            number = each * shelf.numbers[value] if value in shelf.numbers else 0
     return before, number
 
 
