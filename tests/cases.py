@@ -4,10 +4,14 @@ import itertools
 import random
 import unittest
 
+from pagewise.desk.desk import Desk
+from pagewise.keys.keys import KeyedPages
 from pagewise.orders.good import good_orders
 from pagewise.queries.queries import Query
 from pagewise.shapes.rings import rings
 from pagewise.tables.answers import answers
+from pagewise.text.selects import Select
+from pagewise.text.shell import Shell
 
 FAR = Query(("x", "z", "y"), r=("x", "z"), s=("z", "y"))
 ROWS = {"r": ((1, 1), (1, 2), (2, 2)), "s": ((1, 5), (2, 5), (2, 6))}
@@ -39,6 +43,7 @@ def odd_values():
         {"r": {}, "s": None},
         nested(tuple, 10), nested(list, 10), nested(dict, 10),
         FAR, RING, ROWS, FAR.atoms, answers(FAR, ROWS), rings(RING), FAR.having("x"),
+        KeyedPages(FAR, ROWS, ()), Desk(), Desk().trial(), Select(FAR), Shell(), Shell().run_all(()),
     ]
 
 

@@ -49,6 +49,15 @@ INTERFACE = {
     "pagewise.pages.sums": "groups sum_of extremes tally middle cuts",
     "pagewise.live.live": "Live",
     "pagewise.live.cursors": "Cursor",
+    "pagewise.problems.products": "product product_tables product_by",
+    "pagewise.problems.closed": "closed_row full_choice closed_tables",
+    "pagewise.tables.reduced": "agree reduced is_reduced any_solution count_solutions clashing",
+    "pagewise.keys.keys": "is_key holds_key grown grown_tables shown_part KeyedPages",
+    "pagewise.desk.desk": "Desk",
+    "pagewise.text.formats": "format_query parse_query format_row parse_row format_tables parse_tables format_order "
+                             "parse_order format_paper parse_paper format_key parse_key",
+    "pagewise.text.selects": "Select",
+    "pagewise.text.shell": "Shell",
 }
 METHODS_OF = {
     "pagewise.queries.queries.Query": "of shown down atoms columns hidden atom having with_atom with_atom_of without_atom "
@@ -60,6 +69,14 @@ METHODS_OF = {
                                "position_of pages trial attempt __eq__ __str__",
     "pagewise.live.live.Trial": "keep __enter__ __exit__",
     "pagewise.live.cursors.Cursor": "anchor row position onward back at to to_end take rest twin __eq__ __str__",
+    "pagewise.keys.keys.KeyedPages": "query tables total grown __getitem__ __contains__ position_of after ahead_of span "
+                                     "page __eq__",
+    "pagewise.desk.desk.Desk": "do do_all undo redo names tables views steps kept keep __contains__ __len__ width pages "
+                               "paper total_of trial attempt twin __eq__ __str__",
+    "pagewise.desk.desk.DeskTrial": "__enter__ __exit__",
+    "pagewise.text.selects.Select": "read written query fixed same size offset tables_for __call__ rows total_for __eq__ "
+                                    "__str__",
+    "pagewise.text.shell.Shell": "run run_all desk log __len__",
 }
 BARRED_ATTRIBUTES = set("""items keys values pop update append clear extend insert remove reverse setdefault sort args encode
     decode hex fromhex format""".split())

@@ -5,6 +5,7 @@ import itertools
 import unittest
 
 from pagewise.errors import InvalidNumber, InvalidOperation, InvalidRow, UnknownName
+from pagewise.keys.keys import KeyedPages
 from pagewise.live.live import Live
 from pagewise.pages.pages import Pages
 from pagewise.pages.sums import cuts, extremes, groups, middle, sum_of, tally
@@ -146,7 +147,7 @@ class States(Case):
 
 class Errors(Case):
     def test_wrong_pages(self):
-        for pages in (*odd_values(), Live(FAR, tables=ROWS)):
+        for pages in (*odd_values(), Live(FAR, tables=ROWS), KeyedPages(FAR, ROWS, ()), [PAGES]):
             for values in ((), None):
                 error = self.stays_lazy(InvalidOperation, lambda: groups(pages, values))
                 self.assertIs(type(error), InvalidOperation)

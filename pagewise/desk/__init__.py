@@ -1,0 +1,1 @@
+"""A desk with tables, and many queries over them."""

@@ -1,0 +1,1 @@
+"""Keys, by which queries grow until pages of them can be had."""

@@ -1,0 +1,1 @@
+"""Problems that every server of pages solves, where a query has a witness."""

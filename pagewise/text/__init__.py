@@ -1,0 +1,1 @@
+"""Texts of values, selects, and a shell for a desk."""
