@@ -134,7 +134,7 @@ class Rows(Formats):
 
     def test_other_texts(self):
         self.refuses(parse_row, "", " ", "1 ", " 1", "1  2", "1\n", "1\n2", "\n", "-0", "+1", "01", "-01", "--1", "-", "1-", "1 -",
-                     "()()", "() 1", "1 ()", "( )", "1.0", "1_0", "1e3", "0x1", "one", "None", "1,2", "1, 2", "(1)", "(1, 2)",
+                     "()()", "() 1", "1 ()", "( )", "1.0", "1q", "1_0", "1e3", "0x1", "one", "None", "1,2", "1, 2", "(1)", "(1, 2)",
                      "1\t2", "0 1 2 3 4 5 6 7 8 9 10", str(BIG + 1), str(-BIG - 1), "0" * 5000, "9" * 5000, "00", "- 1",
                      *[f"1{sign}" for sign in ODD_SIGNS], *[sign for sign in ODD_SIGNS], *[f"{sign}1" for sign in ODD_SIGNS])
         self.assertEqual(parse_row(str(-BIG)), (-BIG,))

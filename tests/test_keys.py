@@ -412,6 +412,9 @@ class PagesByKeys(Case):
         for size in (0, 1001, *odd_except(lambda one: is_whole(one) and 1 <= one <= 1000)):
             self.keeps(InvalidNumber, "value", size, pages.page, 0, size=size)
         self.assertEqual([len(pages.page(0, size=1000)), pages.page(BIG)], [3, ()])
+        many = KeyedPages(Query(("x",), r=("x",)), {"r": tuple((number,) for number in range(25))}, ())
+        self.assertEqual([many.page(0), many.page(2)], [tuple((number,) for number in range(10)),
+                                                        tuple((number,) for number in range(20, 25))])
 
 
 if __name__ == "__main__":

@@ -199,6 +199,12 @@ class Servers(Case):
                              [WIDE, list(product_tables(WIDE, TRIO_OF, first, second).items())])
         self.assertEqual(len({id(tables) for _, tables, _ in calls}), 4)
 
+    def test_the_calls_are_ascending(self):
+        calls, numbers = [], (-BIG, -300, -2, -1, 0, 7, 300, BIG)
+        first, second = tuple((number, -number) for number in numbers), tuple((number, number) for number in numbers)
+        found = product_by(TRIO, TRIO_OF, first, second, lambda *told: calls.append(told[2][:2]) or 1)
+        self.assertEqual([tuple(calls), found], [tuple((one, other) for one in numbers for other in numbers)] * 2)
+
     def test_the_later_column_can_have_the_role_a(self):
         calls = []
         product_by(chain(4), ("bridge", ("a", "b", "c", "d")), ((1, 7),), ((7, 3),), lambda *told: calls.append(told) or 1)

@@ -367,6 +367,13 @@ class States(Case):
                       select.query, str(select), *odd_values()):
             self.assertTrue(select != other and not select == other)
 
+    def test_unlike_equalities_of_equal_queries(self):
+        one, other = Select(LINE, same=(("b", "a"),)), Select(LINE, same=(("c", "b"),))
+        self.assertTrue(one != other and one == Select(LINE, same=(("a", "b"), ("b", "b"))))
+        # All is equal but the columns that are alike.
+        one, other = [Select(Query((), p=("a", "b", "c")), fixed={"a": 1}, same=same) for same in ((("b", "c"),), ())]
+        self.assertEqual([one.fixed, other.fixed, one == other, one != other], [{"a": 1}, {"a": 1}, False, True])
+
     def test_no_access(self):
         fixed, tables = {"z": 2}, {"s": ROWS["s"], "r": ROWS["r"]}
         select = Select(FAR, fixed=fixed, same=(("y", "x"),))

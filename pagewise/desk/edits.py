@@ -20,7 +20,7 @@ class Stock:
 
 def behind_edit(stock, edit):
     """Return what stands on a desk behind an edit, or raise InvalidEdit if it is none or is not possible."""
-    if not isinstance(edit, tuple) or len(edit) < 2 or not isinstance(edit[0], str) or edit[0] not in SIZES:
+    if not isinstance(edit, tuple) or not edit or not isinstance(edit[0], str) or edit[0] not in SIZES:
         raise InvalidEdit("not an edit")
     if len(edit) != SIZES[edit[0]] or not is_name(edit[1]):
         raise InvalidEdit("not an edit")

@@ -125,10 +125,9 @@ def tell_select(desk, text):
     """Return the rows that a select gives on the tables of the desk."""
     select = Select.read(f"select {text}")
     atoms, tables = select.written.atoms, desk.tables
-    for name in atoms:
-        if name not in tables:
-            raise UnknownName(name)
-    if not all([desk.width(name) == len(own) for name, own in atoms.items()]):
+    # Atoms are ascending, so the smallest one that is no table is found first.
+    widths = {name: desk.width(name) for name in atoms}
+    if not all([widths[name] == len(own) for name, own in atoms.items()]):
         raise InvalidTables("an atom has not as many columns as its table is wide")
     return rows_text(select({name: tables[name] for name in atoms}))
 
