@@ -10,7 +10,8 @@ from pagewise.queries.queries import Query
 from pagewise.shapes.rings import rings, shells
 from pagewise.tables.answers import solutions
 from pagewise.tables.tables import is_tables
-from tests.cases import (BIG, BRIDGE, LETTERS, RING, SHELL, TRIO, Case, is_whole, odd_except, odd_values, random_queries)
+from tests.cases import (BIG, BRIDGE, LETTERS, RING, SHELL, TRIO, Case,
+                         odd_except, odd_values, random_queries)
 
 LIKE, UNLIKE = ((0, 0), (1, 1)), ((0, 1), (1, 0))
 RING_OF, SHELL_OF = ("ring", ("a", "b", "c", "d")), ("shell", ("a", "b", "c"))
@@ -69,7 +70,8 @@ class ClosedRows(Case):
         self.assertEqual(closed_row((((-2, -3), (-1, -5)), ((-5, 0), (-3, 0)), ((0, -2), (0, -1)))), (-2, -3, 0))
 
     def test_empty_and_great_ones(self):
-        self.assertEqual([closed_row(((),) * 3), closed_row((LIKE, (), LIKE)), closed_row((LIKE,) * 9 + ((),))], [None] * 3)
+        self.assertEqual([closed_row(((),) * 3), closed_row((LIKE, (), LIKE)),
+                         closed_row((LIKE,) * 9 + ((),))], [None] * 3)
         self.assertEqual(closed_row((((BIG, -BIG),), ((-BIG, 7),), ((7, BIG),))), (BIG, -BIG, 7))
         self.assertEqual(closed_row((LIKE,) * 10), (0,) * 10)
         step = tuple((number, (number + 1) % 100) for number in range(100))
@@ -91,7 +93,8 @@ class ClosedRows(Case):
     def test_errors(self):
         wrong = [(LIKE,) * 2, (LIKE,) * 11, (), [LIKE] * 3, (LIKE, LIKE, ((1, 0), (0, 1))), (LIKE, None, LIKE),
                  (LIKE, LIKE, ((1, 2, 3),)), (LIKE, LIKE, ((1, True),)), (LIKE, LIKE, [(0, 0)]), LIKE,
-                 (LIKE, LIKE, tuple((0, number) for number in range(101))), (LIKE, LIKE, ((1, 1), (1, 1))), *odd_values()]
+                 (LIKE, LIKE, tuple((0, number) for number in range(101))), (LIKE, LIKE, ((1, 1), (1, 1))),
+                 *odd_values()]
         for value in wrong:
             self.fails(InvalidRow, closed_row, value)
 
@@ -216,13 +219,15 @@ class ClosedTables(Case):
     def test_errors(self):
         for query in odd_except(lambda one: isinstance(one, Query)):
             self.fails(InvalidQuery, closed_tables, query, None, None)
-        for witness in (SHELL_OF, ("ring", ("a", "c", "b", "d")), ("ring", ("a", "b", "c")), ("ring", ["a", "b", "c", "d"]),
+        for witness in (SHELL_OF, ("ring", ("a", "c", "b", "d")), ("ring", ("a", "b", "c")),
+                        ("ring", ["a", "b", "c", "d"]),
                         ["ring", ("a", "b", "c", "d")], ("a", "b", "c", "d"), *odd_values()):
             self.fails(InvalidOperation, closed_tables, RING, witness, None)
         self.fails(InvalidOperation, closed_tables, SHELL, ("shell", ("b", "a", "c")), (LIKE,) * 3)
         self.fails(InvalidOperation, closed_tables, TRIO, ("trio", ("x", "y", "z")), (LIKE,) * 3)
         self.fails(InvalidOperation, closed_tables, BRIDGE, ("bridge", ("x", "z", "y")), (LIKE,) * 3)
-        wrong = [(LIKE,) * 2, (LIKE,) * 5, [LIKE] * 4, [LIKE] * 3, (LIKE, LIKE, LIKE, ((1, 0), (0, 1))), (LIKE, LIKE, None),
+        wrong = [(LIKE,) * 2, (LIKE,) * 5, [LIKE] * 4, [LIKE] * 3, (LIKE, LIKE, LIKE, ((1, 0), (0, 1))),
+                 (LIKE, LIKE, None),
                  (LIKE, LIKE, LIKE, tuple((0, number) for number in range(101))), (LIKE, LIKE, ((1, True),)),
                  (LIKE, LIKE, ((1, 2, 3),)), *odd_values()]
         for inputs in wrong:

@@ -177,7 +177,8 @@ class Ordinary(Case):
         desk = Desk()
         self.assertEqual([desk.do(*BASE, ("put", "r", (1, 2))), desk.pages("far").total], [1, 0])
         self.assertEqual(desk.do(("put", "s", (2, 5)), ("put", "s", (2, 6)), ("view", "pair", BRIDGE)), 2)
-        self.assertEqual([desk.pages("far")[1], desk.total_of("far"), desk.paper("pair")[0], desk.undo(), desk.total_of("far")],
+        self.assertEqual([desk.pages("far")[1], desk.total_of("far"), desk.paper("pair")[0], desk.undo(),
+                          desk.total_of("far")],
                          [(1, 2, 6), 2, "bridge", 1, 0])
 
     def test_what_it_tells(self):
@@ -185,15 +186,19 @@ class Ordinary(Case):
         self.assertEqual([desk.names, list(desk.tables.items()), desk.views, desk.steps, len(desk), str(desk)],
                          [("far", "r", "s"), list(ROWS.items()), {"far": FAR}, 2, 3, "desk of 2 tables, 1 views"])
         self.assertEqual([name in desk for name in ("far", "r", "s", "x", "", "FAR")], [True] * 3 + [False] * 3)
-        self.assertEqual([desk.width("r"), desk.pages("far") == Pages(FAR, ROWS), desk.total_of("far"), desk.paper("far")],
+        self.assertEqual([desk.width("r"), desk.pages("far") == Pages(FAR, ROWS), desk.total_of("far"),
+                          desk.paper("far")],
                          [2, True, 5, ("order", ("x", "z", "y"))])
 
     def test_names_and_dicts_are_ascending(self):
         desk = Desk()
-        desk.do(("table", "t", 1), ("table", "b", 2), ("view", "z", Query((), t=("x",))), ("view", "a", Query((), t=("y",))))
-        self.assertEqual([desk.names, list(desk.tables), list(desk.views)], [("a", "b", "t", "z"), ["b", "t"], ["a", "z"]])
+        desk.do(("table", "t", 1), ("table", "b", 2), ("view", "z",
+                Query((), t=("x",))), ("view", "a", Query((), t=("y",))))
+        self.assertEqual([desk.names, list(desk.tables), list(desk.views)],
+                         [("a", "b", "t", "z"), ["b", "t"], ["a", "z"]])
         desk.do(("rename", "b", "y"), ("rename", "z", "c"))
-        self.assertEqual([desk.names, list(desk.tables), list(desk.views)], [("a", "c", "t", "y"), ["t", "y"], ["a", "c"]])
+        self.assertEqual([desk.names, list(desk.tables), list(desk.views)],
+                         [("a", "c", "t", "y"), ["t", "y"], ["a", "c"]])
 
     def test_rows_are_ascending(self):
         desk = Desk()
@@ -220,7 +225,8 @@ class Ordinary(Case):
     def test_equal_desks(self):
         desk = far_desk()
         other = Desk(kept=3)
-        other.do(("table", "s", 2), ("table", "old", 2), ("view", "far", Query(FAR.shown, old=("x", "z"), s=("z", "y"))))
+        other.do(("table", "s", 2), ("table", "old", 2),
+                 ("view", "far", Query(FAR.shown, old=("x", "z"), s=("z", "y"))))
         other.do(*[("put", "s", row) for row in ROWS["s"]], *[("put", "old", row) for row in ROWS["r"]])
         self.assertTrue(desk != other and not desk == other)
         other.do(("rename", "old", "r"))
@@ -248,7 +254,8 @@ class Names(Case):
             self.fails(InvalidEdit, desk.do, ("put", "r", (0, 0)), edit, ("forget", "one"))
         self.assertEqual(everything(desk), before)
         # Each of these leaves twenty names at most.
-        desk.do(("view", "na", FAR), ("rename", "na", "one"), ("put", "r", (0, 0)), ("forget", "one"), ("table", "two", 1))
+        desk.do(("view", "na", FAR), ("rename", "na", "one"),
+                ("put", "r", (0, 0)), ("forget", "one"), ("table", "two", 1))
         self.assertEqual([len(desk), desk.width("two")], [20, 1])
         self.fails(InvalidEdit, desk.do, ("view", "three", ONE))
         desk.do(("forget", "two"), ("view", "three", ONE))
@@ -257,7 +264,8 @@ class Names(Case):
     def test_a_table_and_a_view_have_different_names(self):
         desk = far_desk()
         before = everything(desk)
-        for edit in (("view", "r", ONE), ("table", "far", 2), ("table", "r", 2), ("rename", "r", "far"), ("rename", "far", "s"),
+        for edit in (("view", "r", ONE), ("table", "far", 2), ("table", "r", 2), ("rename", "r", "far"),
+                     ("rename", "far", "s"),
                      ("rename", "r", "r"), ("rename", "none", "new"), ("forget", "none"), ("view", "far", RING),
                      ("put", "far", (1, 1)), ("drop", "far", (1, 1)), ("put", "none", (1,)), ("drop", "none", ())):
             self.fails(InvalidEdit, desk.do, edit)
@@ -274,18 +282,22 @@ class Names(Case):
 
     def test_names_that_come_again(self):
         desk = far_desk()
-        desk.do(("forget", "far"), ("forget", "r"), ("table", "far", 3), ("view", "r", Query(("a",), far=("a", "b", "c"))))
+        desk.do(("forget", "far"), ("forget", "r"), ("table", "far", 3),
+                ("view", "r", Query(("a",), far=("a", "b", "c"))))
         self.assertEqual([desk.width("far"), desk.tables["far"], desk.pages("r").total], [3, (), 0])
         desk.do(("put", "far", (1, 2, 3)))
-        self.assertEqual([desk.pages("r")[0], desk.undo(many=2), desk.tables, desk.pages("far").total], [(1,), 2, ROWS, 5])
+        self.assertEqual([desk.pages("r")[0], desk.undo(many=2), desk.tables,
+                         desk.pages("far").total], [(1,), 2, ROWS, 5])
 
     def test_renamed_tables_and_views(self):
         desk = far_desk()
         desk.do(("view", "one", ONE), ("view", "low", Query(("z", "x"), down=("x",), r=("x", "z"))))
         desk.do(("rename", "r", "new"), ("rename", "far", "near"))
-        self.assertEqual(desk.views, {"low": Query(("z", "x"), down=("x",), new=("x", "z")), "one": Query(("x",), new=("x", "z")),
+        self.assertEqual(desk.views,
+                         {"low": Query(("z", "x"), down=("x",), new=("x", "z")), "one": Query(("x",), new=("x", "z")),
                                       "near": Query(FAR.shown, new=("x", "z"), s=("z", "y"))})
-        self.assertEqual([desk.width("new"), desk.tables["new"], desk.pages("near").total, list(desk.pages("low").walk())],
+        self.assertEqual([desk.width("new"), desk.tables["new"], desk.pages("near").total,
+                          list(desk.pages("low").walk())],
                          [2, ROWS["r"], 5, [(1, 1), (2, 2), (2, 1)]])
         self.keeps(UnknownName, "name", "far", desk.pages, "far")
         self.keeps(UnknownName, "name", "r", desk.width, "r")
@@ -301,7 +313,8 @@ class Names(Case):
     def test_views_fit_their_tables(self):
         desk = far_desk()
         desk.do(("table", "t", 1))
-        for query in (Query((), t=("x", "y")), Query((), r=("x",)), Query((), far=("x", "y")), Query((), r=("x", "y"), u=("x",)),
+        for query in (Query((), t=("x", "y")), Query((), r=("x",)), Query((), far=("x", "y")),
+                      Query((), r=("x", "y"), u=("x",)),
                       RING, *odd_except(lambda one: isinstance(one, Query))):
             self.fails(InvalidEdit, desk.do, ("view", "v", query))
             self.fails(InvalidEdit, desk.do, ("view", "far", query))
@@ -312,8 +325,10 @@ class Names(Case):
         desk = Desk()
         desk.do(("table", "a", 1), ("table", "j", 10), ("put", "j", tuple(range(10))))
         self.assertEqual([desk.width("a"), desk.width("j"), desk.tables["j"]], [1, 10, (tuple(range(10)),)])
-        for edit in (("table", "t", 0), ("table", "t", 11), ("table", "t", True), ("put", "a", ()), ("put", "a", (1, 2)),
-                     ("put", "a", (True,)), ("drop", "a", ()), ("drop", "a", (1, 2)), ("drop", "j", (1,)), ("put", "a", [1])):
+        for edit in (("table", "t", 0), ("table", "t", 11), ("table", "t", True), ("put", "a", ()),
+                     ("put", "a", (1, 2)),
+                     ("put", "a", (True,)), ("drop", "a", ()), ("drop", "a", (1, 2)), ("drop", "j", (1,)),
+                     ("put", "a", [1])):
             self.fails(InvalidEdit, desk.do, edit)
 
     def test_a_thousand_rows(self):
@@ -334,11 +349,13 @@ class Steps(Case):
         desk = far_desk()
         self.assertEqual([desk.undo(), desk.tables, desk.redo(), desk.tables, desk.undo(many=2), desk.names],
                          [1, {"r": (), "s": ()}, 2, ROWS, 0, ()])
-        self.assertEqual([desk.redo(many=2), desk.pages("far").total, desk.undo(many=0), desk.redo(many=0)], [2, 5, 2, 2])
+        self.assertEqual([desk.redo(many=2), desk.pages("far").total,
+                         desk.undo(many=0), desk.redo(many=0)], [2, 5, 2, 2])
 
     def test_edits_that_change_nothing_are_steps(self):
         desk = far_desk()
-        self.assertEqual([desk.do(("put", "r", (1, 1))), desk.do(("drop", "r", (7, 7))), desk.do(("view", "far", FAR))], [3, 4, 5])
+        self.assertEqual([desk.do(("put", "r", (1, 1))), desk.do(
+            ("drop", "r", (7, 7))), desk.do(("view", "far", FAR))], [3, 4, 5])
         self.assertEqual([desk.undo(many=3), desk.tables, desk.redo(many=2), undone(desk)], [2, ROWS, 4, 1])
         desk.do(("put", "s", (1, 5)), ("drop", "s", (1, 6)))
         self.assertEqual([desk.steps, undone(desk)], [5, 0])
@@ -359,7 +376,8 @@ class Steps(Case):
         desk.undo()
         before = everything(desk)
         for late in (("put", "r", (1,)), ("table", "s", 2), ("forget", "r"), None, ("view", "v", RING)):
-            self.fails(InvalidEdit, desk.do, ("put", "r", (1, 2)), ("rename", "s", "t"), ("table", "u", 1), ("rename", "t", "s"),
+            self.fails(InvalidEdit, desk.do, ("put", "r", (1, 2)), ("rename", "s", "t"), ("table", "u", 1),
+                       ("rename", "t", "s"),
                        late)
             self.assertEqual(everything(desk), before)
 
@@ -368,7 +386,8 @@ class Steps(Case):
         self.assertEqual([desk.steps, desk.undo(), desk.names, desk.tables["r"]], [1, 0, ("far", "r", "s"), ()])
         self.keeps(NothingToUndo, "many", 1, desk.undo)
         none = far_desk(kept=0)
-        self.assertEqual([none.steps, none.do(("put", "r", (7, 7))), none.undo(many=0), none.total_of("far")], [0, 0, 0, 5])
+        self.assertEqual([none.steps, none.do(("put", "r", (7, 7))),
+                         none.undo(many=0), none.total_of("far")], [0, 0, 0, 5])
         self.keeps(NothingToUndo, "many", 1, none.undo)
         great = Desk(kept=1000)
         great.do(("table", "t", 1))
@@ -393,7 +412,8 @@ class Steps(Case):
         self.assertEqual([desk.steps, undone(desk)], [7, 3])
         desk.kept = 2
         self.assertEqual([desk.kept, desk.steps, undone(desk), len(desk.tables["t"])], [2, 2, 3, 6])
-        self.assertEqual([desk.redo(many=3), len(desk.tables["t"]), desk.undo(many=2), len(desk.tables["t"])], [2, 9, 0, 7])
+        self.assertEqual([desk.redo(many=3), len(desk.tables["t"]),
+                         desk.undo(many=2), len(desk.tables["t"])], [2, 9, 0, 7])
         desk.keep(1000)
         self.assertEqual([desk.kept, desk.steps, desk.redo(many=2), desk.do(("put", "t", (70,)))], [1000, 0, 2, 3])
         desk.keep(0)
@@ -444,7 +464,8 @@ class Steps(Case):
                         self.assertEqual(call(many=many), len(record.done))
                 seen[word] = seen.get(word, 0) + 1
                 self.assertEqual(state_of(desk), record.state())
-                self.assertEqual([desk.steps, undone(desk), len(desk)], [len(record.done), len(record.undone), len(desk.names)])
+                self.assertEqual([desk.steps, undone(desk), len(desk)], [
+                                 len(record.done), len(record.undone), len(desk.names)])
                 self.check_views(desk)
         self.assertGreater(min(seen.values()), 100, seen)
 
@@ -460,7 +481,8 @@ class Views(Case):
     def test_a_total_by_another_sort_order(self):
         desk = far_desk()
         desk.do(("view", "trio", TRIO), ("view", "down", TRIO.with_shown("x", "y", "z", down=("y",))))
-        self.assertEqual([desk.total_of("trio"), desk.total_of("down"), desk.paper("trio")], [5, 5, ("trio", ("x", "y", "z"))])
+        self.assertEqual([desk.total_of("trio"), desk.total_of("down"),
+                         desk.paper("trio")], [5, 5, ("trio", ("x", "y", "z"))])
         self.keeps(Unsorted, "witness", ("trio", ("x", "y", "z")), desk.pages, "trio")
 
     def test_no_total(self):
@@ -488,7 +510,8 @@ class Views(Case):
         chance, seen = random.Random(1601), {"pages": 0, "total": 0, "none": 0}
         for _ in range(300):
             columns = LETTERS[:4]
-            atoms = {name: tuple(chance.sample(columns, chance.choice((2, 2, 2, 3)))) for name in "pqrst"[:chance.randint(1, 5)]}
+            atoms = {name: tuple(chance.sample(columns, chance.choice((2, 2, 2, 3))))
+                                 for name in "pqrst"[:chance.randint(1, 5)]}
             used = sorted({column for own in atoms.values() for column in own})
             query = Query.of(tuple(chance.sample(used, chance.randint(0, len(used)))), atoms)
             desk = Desk()
@@ -587,7 +610,8 @@ class Trials(Case):
     def test_attempts(self):
         desk = far_desk()
         before, seen = everything(desk), []
-        self.assertEqual(desk.attempt(lambda one: (one.do(("drop", "r", (2, 2))), one.total_of("far"), seen.append(one))),
+        self.assertEqual(desk.attempt(lambda one: (one.do(("drop", "r", (2, 2))), one.total_of("far"),
+                                                   seen.append(one))),
                          (3, 3, None))
         self.assertIs(seen[0], desk)
         self.assertIsNone(desk.attempt(lambda one: one.keep(3)))
@@ -652,16 +676,19 @@ class Errors(Case):
         wrong = [(), ("put",), ("put", "r"), ("put", "r", (1, 2), (1, 2)), ["put", "r", (1, 2)], ("PUT", "r", (1, 2)),
                  ("table", "t"), ("table", "T", 1), ("table", "", 1), ("table", "ninechars", 1), ("table", "t", "1"),
                  ("table", ["t"], 1), (["table"], "t", 1), ({}, "t", 1), ("view", "V", FAR), ("view", "v"), ("forget",),
-                 ("forget", "far", "far"), ("rename", "r"), ("rename", "r", "R"), ("rename", "r", ["q"]), ("rename", "r", 1),
+                 ("forget", "far", "far"), ("rename", "r"), ("rename",
+                  "r", "R"), ("rename", "r", ["q"]), ("rename", "r", 1),
                  ("rename", ["r"], "q"), ("forget", ["far"]), ("put", ["r"], (1, 2)), ("put", {}, (1, 2)), ("undo", 1),
-                 ("view", {"v": 1}, FAR), ("table", "t", [1]), (None, "r", (1, 2)), (("put",), "r", (1, 2)), *odd_values()]
+                 ("view", {"v": 1}, FAR), ("table", "t", [1]), (None, "r", (1, 2)), (("put",), "r", (1, 2)),
+                 *odd_values()]
         for edit in wrong:
             self.fails(InvalidEdit, desk.do, edit)
             self.fails(InvalidEdit, desk.do, ("put", "r", (7, 7)), edit)
         for value in odd_except(lambda one: one in ((1, 2), (2, 1))):
             self.fails(InvalidEdit, desk.do, ("put", "r", value))
             self.fails(InvalidEdit, desk.do, ("drop", "r", value))
-        for edits in ([("put", "r", (7, 7))], {("put", "r", (7, 7)): 1}, *odd_except(lambda one: one == () and one != {})):
+        for edits in ([("put", "r", (7, 7))], {("put", "r", (7, 7)): 1},
+                      *odd_except(lambda one: one == () and one != {})):
             self.fails(InvalidEdit, desk.do_all, edits)
         self.assertEqual(everything(desk), before)
 

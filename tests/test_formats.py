@@ -3,7 +3,8 @@
 import random
 import unittest
 
-from pagewise.errors import (InvalidKey, InvalidOperation, InvalidOrder, InvalidQuery, InvalidRow, InvalidTables, ParseError)
+from pagewise.errors import (InvalidKey, InvalidOperation, InvalidOrder,
+                             InvalidQuery, InvalidRow, InvalidTables, ParseError)
 from pagewise.keys.keys import is_key
 from pagewise.orders.good import good_orders, is_good, order_paper
 from pagewise.queries.queries import Query
@@ -17,8 +18,10 @@ from tests.test_keys import WRONG_KEYS, all_keys
 FAR_TEXT = "x, z, y from r(x, z), s(z, y)"
 ROWS_TEXT = "r 1 1\nr 1 2\nr 2 2\ns 1 5\ns 2 5\ns 2 6"
 # Signs that Python takes for digits, letters, blanks or line ends somewhere, and no text has.
-ODD_SIGNS = ("\u0663", "\u00b2", "\uff11", "\u00e9", "\u00df", "\u00a0", "\u2028", "\r", "\t", "\f", "\x1c", "\x85", "_", "A", "+")
-WORDS = Query(("from", "desc"), down=("desc",), where=("from", "desc", "limit"), select=("limit",), desc=("and", "from"))
+ODD_SIGNS = ("\u0663", "\u00b2", "\uff11", "\u00e9", "\u00df", "\u00a0",
+             "\u2028", "\r", "\t", "\f", "\x1c", "\x85", "_", "A", "+")
+WORDS = Query(("from", "desc"), down=("desc",), where=(
+    "from", "desc", "limit"), select=("limit",), desc=("and", "from"))
 # A name of eight letters and of one, and all that a query can have.
 WIDE = Query.of(LETTERS[:10], {"abcdefg" + one: LETTERS[:10][::-1] for one in LETTERS[:10]}, down=LETTERS[:10])
 
@@ -104,15 +107,20 @@ class Queries(Formats):
             self.assertEqual([format_query(query), parse_query(text_of_query(query))], [text_of_query(query), query])
 
     def test_other_texts(self):
-        self.refuses(parse_query, "", "x", "from", " from ", "x from", "x from ", " from r(x)", "x from r", "x from r()",
-                     "x from r(x", "x from r x)", "x from r((x)", "x from r(x))", "x from (x)", "x from r(x),", "x from r(x), ",
+        self.refuses(parse_query, "", "x", "from", " from ", "x from", "x from ", " from r(x)", "x from r",
+                     "x from r()",
+                     "x from r(x", "x from r x)", "x from r((x)", "x from r(x))", "x from (x)", "x from r(x),",
+                     "x from r(x), ",
                      "x from r(x),s(x)", "x from r(x) s(x)", "x from r(x,z)", "x from r(x , z)", "x,z from r(x, z)",
                      "x  from r(x)", "x from  r(x)", " x from r(x)", "x from r(x) ", "x from r(x)\n", "\nx from r(x)",
                      "x from r (x)", "x from r( x)", "x from r(x )", "x from s(x), r(x)", "x from r(x), r(x)",
                      "x from r(x), r(z)", "x, x from r(x)", "x from r(x, x)", "y from r(x)", "x asc from r(x)",
-                     "x desc desc from r(x)", "desc from r(x)", "X from r(X)", "x from R(x)", "ninechars from r(ninechars)",
-                     "x from ninechars(x)", "x1 from r(x1)", "- from", "-, x from r(x)", "- desc from r(x)", "x FROM r(x)",
-                     "x from r(x) from s(x)", "-from r(x)", ", from r(x)", "x, from r(x)", "query of 1 atoms", "x\nfrom r(x)")
+                     "x desc desc from r(x)", "desc from r(x)", "X from r(X)", "x from R(x)",
+                     "ninechars from r(ninechars)",
+                     "x from ninechars(x)", "x1 from r(x1)", "- from", "-, x from r(x)", "- desc from r(x)",
+                     "x FROM r(x)",
+                     "x from r(x) from s(x)", "-from r(x)", ", from r(x)", "x, from r(x)", "query of 1 atoms",
+                     "x\nfrom r(x)")
 
     def test_ten_atoms_and_columns(self):
         text = text_of_query(WIDE)
@@ -133,10 +141,13 @@ class Rows(Formats):
             self.reads(text, parse_row, format_row, row)
 
     def test_other_texts(self):
-        self.refuses(parse_row, "", " ", "1 ", " 1", "1  2", "1\n", "1\n2", "\n", "-0", "+1", "01", "-01", "--1", "-", "1-", "1 -",
-                     "()()", "() 1", "1 ()", "( )", "1.0", "1q", "1_0", "1e3", "0x1", "one", "None", "1,2", "1, 2", "(1)", "(1, 2)",
+        self.refuses(parse_row, "", " ", "1 ", " 1", "1  2", "1\n", "1\n2", "\n", "-0", "+1", "01", "-01", "--1", "-",
+                     "1-", "1 -",
+                     "()()", "() 1", "1 ()", "( )", "1.0", "1q", "1_0", "1e3", "0x1", "one", "None", "1,2", "1, 2",
+                     "(1)", "(1, 2)",
                      "1\t2", "0 1 2 3 4 5 6 7 8 9 10", str(BIG + 1), str(-BIG - 1), "0" * 5000, "9" * 5000, "00", "- 1",
-                     *[f"1{sign}" for sign in ODD_SIGNS], *[sign for sign in ODD_SIGNS], *[f"{sign}1" for sign in ODD_SIGNS])
+                     *[f"1{sign}" for sign in ODD_SIGNS], *[sign for sign in ODD_SIGNS],
+                     *[f"{sign}1" for sign in ODD_SIGNS])
         self.assertEqual(parse_row(str(-BIG)), (-BIG,))
 
     def test_errors(self):
@@ -147,7 +158,8 @@ class Rows(Formats):
 
 class Tables(Formats):
     def test_the_examples(self):
-        self.assertEqual([format_tables(FAR, ROWS), parse_tables(FAR, "s 1 -5")], [ROWS_TEXT, {"r": (), "s": ((1, -5),)}])
+        self.assertEqual([format_tables(FAR, ROWS), parse_tables(FAR, "s 1 -5")],
+                         [ROWS_TEXT, {"r": (), "s": ((1, -5),)}])
         self.assertEqual(list(parse_tables(FAR, "s 1 -5").items()), [("r", ()), ("s", ((1, -5),))])
 
     def test_without_rows(self):
@@ -171,16 +183,20 @@ class Tables(Formats):
                              [text_of_tables(tables), tables])
 
     def test_other_texts(self):
-        self.refuses(lambda text: parse_tables(FAR, text), "r 1 1\n", "\nr 1 1", "r 1 1\n\nr 1 2", "r 1 1\r\nr 1 2", "r 1 2\nr 1 1",
-                     "r 1 1\nr 1 1", "s 1 5\nr 1 1", "r 1", "r 1 1 1", "r", "r ", "r ()", "r  1 1", " r 1 1", "r 1 1 ", "q 1 1",
-                     "x 1 1", "r 1 -0", "r 01 1", "r +1 1", "r 1 1; r 1 2", "r 1 1 r 1 2", "R 1 1", " ", "()", "-", "r: 1 1",
+        self.refuses(lambda text: parse_tables(FAR, text), "r 1 1\n", "\nr 1 1", "r 1 1\n\nr 1 2", "r 1 1\r\nr 1 2",
+                     "r 1 2\nr 1 1",
+                     "r 1 1\nr 1 1", "s 1 5\nr 1 1", "r 1", "r 1 1 1", "r", "r ", "r ()", "r  1 1", " r 1 1", "r 1 1 ",
+                     "q 1 1",
+                     "x 1 1", "r 1 -0", "r 01 1", "r +1 1", "r 1 1; r 1 2", "r 1 1 r 1 2", "R 1 1", " ", "()", "-",
+                     "r: 1 1",
                      "r 1 one", f"r 1 {BIG + 1}", "s 1 5\ns 2 5\nr 1 1", "r 10 1\nr 9 1")
         self.assertEqual(parse_tables(FAR, "r 9 1\nr 10 1")["r"], ((9, 1), (10, 1)))
 
     def test_a_thousand_rows(self):
         query = Query((), r=("x",))
         text = "\n".join(f"r {number}" for number in range(1000))
-        self.assertEqual([len(parse_tables(query, text)["r"]), format_tables(query, parse_tables(query, text))], [1000, text])
+        self.assertEqual([len(parse_tables(query, text)["r"]), format_tables(
+            query, parse_tables(query, text))], [1000, text])
         self.fails(ParseError, parse_tables, query, text + "\nr 1000")
 
     def test_errors(self):
@@ -200,7 +216,8 @@ class Orders(Formats):
 
     def test_other_texts(self):
         self.assertEqual([parse_order(FAR, "x z y"), format_order(FAR, ("x", "z", "y"))], [("x", "z", "y"), "x z y"])
-        self.refuses(lambda text: parse_order(FAR, text), "", "x z", "z x y", "y z x", "x z y z", "x z  y", " x z y", "x z y ",
+        self.refuses(lambda text: parse_order(FAR, text), "", "x z", "z x y", "y z x", "x z y z", "x z  y", " x z y",
+                     "x z y ",
                      "x, z, y", "x z y\n", "x\nz y", "xzy", "order x z y", "x y z", "X z y")
         self.refuses(lambda text: parse_order(TRIO, text), "x y z", "x z y")
 
@@ -215,8 +232,10 @@ class Orders(Formats):
 
 class Papers(Formats):
     def test_near_texts(self):
-        papers = [(FAR, ("order", ("x", "z", "y"))), (TRIO, ("trio", ("x", "y", "z"))), (BRIDGE, ("bridge", ("y", "z", "x"))),
-                  (BRIDGE, ("bridge", ("x", "z", "y"))), (RING, ("ring", ("c", "b", "a", "d"))), (SHELL, ("shell", ("a", "b", "c")))]
+        papers = [(FAR, ("order", ("x", "z", "y"))), (TRIO, ("trio", ("x", "y", "z"))),
+                  (BRIDGE, ("bridge", ("y", "z", "x"))),
+                  (BRIDGE, ("bridge", ("x", "z", "y"))), (RING, ("ring", ("c", "b", "a", "d"))),
+                  (SHELL, ("shell", ("a", "b", "c")))]
         for query, paper in papers:
             text = paper[0] + " " + " ".join(paper[1])
             self.reads(text, lambda text, query=query: parse_paper(query, text),
@@ -229,13 +248,16 @@ class Papers(Formats):
             self.assertIn(order_paper(query)[0], {word for word, _ in papers})
             for word, columns in papers:
                 text = " ".join([word, *columns])
-                self.assertEqual([format_paper(query, (word, columns)), parse_paper(query, text)], [text, (word, columns)])
+                self.assertEqual([format_paper(query, (word, columns)),
+                                 parse_paper(query, text)], [text, (word, columns)])
                 many += word != "order"
         self.assertGreater(many, 80)
 
     def test_other_texts(self):
-        self.refuses(lambda text: parse_paper(TRIO, text), "", "trio", "trio ", "trio x y", "trio y x z", "trio x z y", "trio  x y z",
-                     " trio x y z", "trio x y z ", "trio x y z\n", "trio, x, y, z", "Trio x y z", "bridge x z y", "order x y z",
+        self.refuses(lambda text: parse_paper(TRIO, text), "", "trio", "trio ", "trio x y", "trio y x z", "trio x z y",
+                     "trio  x y z",
+                     " trio x y z", "trio x y z ", "trio x y z\n", "trio, x, y, z", "Trio x y z", "bridge x z y",
+                     "order x y z",
                      "order x z y", "x y z", "trio x y z z", "trio\nx y z", "trio (x, y, z)")
         self.refuses(lambda text: parse_paper(SHELL, text), "shell b a c", "ring a b c", "shell a b")
         self.refuses(lambda text: parse_paper(FAR, text), "x z y", "trio x y z", "order x y z", "order")
@@ -244,7 +266,8 @@ class Papers(Formats):
         for query in odd_except(lambda one: isinstance(one, Query)):
             self.fails(InvalidQuery, format_paper, query, None)
             self.fails(InvalidQuery, parse_paper, query, None)
-        for paper in (("order", ("x", "z", "y")), ("trio", ("y", "x", "z")), ["trio", ("x", "y", "z")], ("trio", ["x", "y", "z"]),
+        for paper in (("order", ("x", "z", "y")), ("trio", ("y", "x", "z")), ["trio", ("x", "y", "z")],
+                      ("trio", ["x", "y", "z"]),
                       "trio x y z", ("bridge", ("x", "z", "y")), *odd_values()):
             self.fails(InvalidOperation, format_paper, TRIO, paper)
 
@@ -253,8 +276,10 @@ class Keys(Formats):
     def test_near_texts(self):
         query = Query((), r=("x", "z", "y"), s=("z",))
         for key in (("r", ("x", "z"), "y"), ("r", (), "y"), ("r", ("x",), "z")):
-            self.reads(text_of_key(key), lambda text: parse_key(query, text), lambda value: format_key(query, value), key)
-        self.assertEqual([format_key(query, ("r", ("x", "z"), "y")), format_key(query, ("r", (), "y")), parse_key(FAR, "r: x -> z")],
+            self.reads(text_of_key(key), lambda text: parse_key(
+                query, text), lambda value: format_key(query, value), key)
+        self.assertEqual([format_key(query, ("r", ("x", "z"), "y")), format_key(query, ("r", (), "y")),
+                          parse_key(FAR, "r: x -> z")],
                          ["r: x z -> y", "r: -> y", ("r", ("x",), "z")])
 
     def test_all_keys(self):
@@ -264,9 +289,12 @@ class Keys(Formats):
 
     def test_other_texts(self):
         query = Query((), r=("x", "z", "y"), s=("z",))
-        texts = ["", "r", "r:", "r: ->", "r: x", "r: y", "r: x ->", "r: x y", "r: z x -> y", "r: x x -> y", "r: x -> x", "r: -> w",
-                 "s: x -> z", "q: x -> z", "r : x -> z", "r:x -> z", "r:: x -> z", "r x -> z", "r: x, z -> y", "r: x->z",
-                 "r:  -> y", "r: x  -> y", "r: x -> y ", " r: x -> y", "r: x -> y\n", "r: x => y", "r: x -> -> y", "r: -> x y",
+        texts = ["", "r", "r:", "r: ->", "r: x", "r: y", "r: x ->", "r: x y", "r: z x -> y", "r: x x -> y",
+                 "r: x -> x", "r: -> w",
+                 "s: x -> z", "q: x -> z", "r : x -> z", "r:x -> z", "r:: x -> z", "r x -> z", "r: x, z -> y",
+                 "r: x->z",
+                 "r:  -> y", "r: x  -> y", "r: x -> y ", " r: x -> y", "r: x -> y\n", "r: x => y", "r: x -> -> y",
+                 "r: -> x y",
                  "-> y", "r: x -> z -> y", ": x -> z", "r: () -> y", "R: x -> z", "r:\nx -> z", "r: - > y"]
         self.refuses(lambda text: parse_key(query, text), *texts)
         self.assertTrue(is_key(query, parse_key(query, "r: x -> z")) and is_good(FAR, ("x", "z", "y")))

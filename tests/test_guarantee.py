@@ -33,7 +33,8 @@ NAMES = ("p", "q", "r", "s")
 
 def random_view(chance, widths):
     """A query over tables with these widths."""
-    atoms = {name: tuple(chance.sample("abcd", widths[name])) for name in chance.sample(sorted(widths), chance.randint(1, 4))}
+    atoms = {name: tuple(chance.sample("abcd", widths[name]))
+                         for name in chance.sample(sorted(widths), chance.randint(1, 4))}
     used = sorted({column for own in atoms.values() for column in own})
     shown = tuple(chance.sample(used, chance.randint(0, len(used))))
     return Query.of(shown, atoms, down=shown[::2])
@@ -46,7 +47,8 @@ class Together(unittest.TestCase):
         """Pages, or what is like pages, of the listed rows."""
         self.assertEqual(pages.total, len(rows))
         for at, row in enumerate(rows):
-            self.assertEqual([pages[at], pages.position_of(row), pages.ahead_of(row), pages.after(row), pages.span(row)],
+            self.assertEqual([pages[at], pages.position_of(row), pages.ahead_of(row), pages.after(row),
+                              pages.span(row)],
                              [row, at, rows[at - 1] if at else None, (*rows, None)[at + 1], (at, at + 1)])
 
     def check_sums(self, query, pages, rows):
@@ -69,7 +71,8 @@ class Together(unittest.TestCase):
             self.check_sums(query, pages, rows)
             live = Live(query, tables=tables)
             cursor = Cursor(live)
-            self.assertEqual([total(query, tables), live.pages() == pages, list(cursor.rest())], [len(rows), True, rows])
+            self.assertEqual([total(query, tables), live.pages() == pages,
+                             list(cursor.rest())], [len(rows), True, rows])
         sort = completed(query, ())
         self.assertEqual(sort is None, any(word != "trio" for word, _ in witnesses(query)))
         self.assertTrue(is_beginning_paper(query, (), beginning_paper(query, ())))
@@ -92,7 +95,7 @@ class Together(unittest.TestCase):
         fixed, same = random_equalities(chance, query)
         # Either integers or columns, so that they do not contradict each other.
         fixed = {} if same else fixed
-        equalities = [f"{column} = {number}" for column, number in fixed.items()] + [f"{one} = {two}" for one, two in same]
+        equalities = [f"{column} = {worth}" for column, worth in (*fixed.items(), *same)]
         select, rows = Select(query, fixed=fixed, same=same), list_by_words(query, tables, fixed, same)
         self.check_query(select.query, select.tables_for(tables))
         if good_order(select.query) is not None:
@@ -121,7 +124,8 @@ class Together(unittest.TestCase):
             widths = {name: chance.choice((1, 2, 2, 2, 3)) for name in NAMES}
             desk.do(*[("table", name, width) for name, width in widths.items()])
             for _ in range(12):
-                rows = [(name, tuple(chance.randint(0, 2) for _ in range(widths[name]))) for name in chance.choices(NAMES, k=5)]
+                rows = [(name, tuple(chance.randint(0, 2) for _ in range(widths[name])))
+                         for name in chance.choices(NAMES, k=5)]
                 desk.do(*[(chance.choice(("put", "put", "drop")), name, row) for name, row in rows],
                         ("view", chance.choice("vw"), random_view(chance, widths)))
                 many = chance.randint(0, min(2, desk.steps - 1))

@@ -107,7 +107,8 @@ class Keys(Case):
             self.assertEqual(sorted(set(found)), sorted(all_keys(query)))
 
     def test_holds(self):
-        self.assertEqual([holds_key(TRIO, ROWS, KEY), holds_key(TRIO, FEW, KEY), holds_key(TRIO, {"r": (), "s": ()}, KEY)],
+        self.assertEqual([holds_key(TRIO, ROWS, KEY), holds_key(TRIO, FEW, KEY),
+                          holds_key(TRIO, {"r": (), "s": ()}, KEY)],
                          [False, True, True])
         self.assertEqual([holds_key(FAR, FEW, ("r", (), "z")), holds_key(FAR, {"r": ((1, 5), (2, 5)), "s": ()}, (
             "r", (), "z")), holds_key(FAR, ROWS, ("r", ("z",), "x")), holds_key(FAR, ROWS, ("s", ("y",), "z"))],
@@ -219,7 +220,8 @@ class Tables(Case):
     def test_nothing_is_changed(self):
         tables = {"s": ((2, 6), (3, 7)), "r": ((1, 2),)}
         grown_tables(FAR, tables, (("s", ("z",), "y"),)).clear()
-        self.assertEqual([list(tables.items()), FAR.atom("r")], [[("s", ((2, 6), (3, 7))), ("r", ((1, 2),))], ("x", "z")])
+        self.assertEqual([list(tables.items()), FAR.atom("r")], [
+                         [("s", ((2, 6), (3, 7))), ("r", ((1, 2),))], ("x", "z")])
 
 
 class Parts(Case):
@@ -295,10 +297,12 @@ class PagesByKeys(Case):
         self.assertEqual([pages.total, pages[1], pages.position_of((2, 6, 0))], [3, (2, 5, 2), 2])
         self.assertEqual([pages.query, pages.tables, pages.grown == Pages(FAR, FEW)], [TRIO, FEW, True])
         self.assertEqual(list(pages.page(0)), list(answers(TRIO, FEW)))
-        self.assertEqual([pages.page(1, size=2), pages.page(2, size=2), pages.span(), pages.span((2,)), pages.span((2, 6)),
+        self.assertEqual([pages.page(1, size=2), pages.page(2, size=2), pages.span(), pages.span((2,)),
+                          pages.span((2, 6)),
                           pages.span((0,)), pages.span((3,)), pages.span((2, 5, 3))],
                          [((2, 6, 2),), (), (0, 3), (1, 3), (2, 3), (0, 0), (3, 3), (2, 2)])
-        self.assertEqual([pages.after((1, 5, 1)), pages.after((2, 6, 2)), pages.ahead_of((1, 5, 1)), pages.ahead_of((9, 9, 9))],
+        self.assertEqual([pages.after((1, 5, 1)), pages.after((2, 6, 2)), pages.ahead_of((1, 5, 1)),
+                          pages.ahead_of((9, 9, 9))],
                          [(2, 5, 2), None, None, (2, 6, 2)])
 
     def test_columns_that_are_sorted_down(self):
@@ -343,7 +347,8 @@ class PagesByKeys(Case):
         self.assertEqual([pages.position_of(middle), middle in pages, pages.after(pages[10 ** 12])],
                          [pages.total // 2, True, pages[10 ** 12 + 1]])
         first, behind = pages.span(middle[:2])
-        self.assertEqual([pages.position_of((*middle[:2], -1, 0, 0)), pages[behind - 1][:2], pages[behind][:2] == middle[:2]],
+        self.assertEqual([pages.position_of((*middle[:2], -1, 0, 0)), pages[behind - 1][:2],
+                          pages[behind][:2] == middle[:2]],
                          [first, middle[:2], False])
 
     def test_by_the_list_of_all_answers(self):
@@ -354,7 +359,8 @@ class PagesByKeys(Case):
                 continue
             rows, pages = list(answers(query, tables)), KeyedPages(query, tables, keys)
             self.check(query, pages, rows)
-            self.assertEqual([pages.total, pages.query, list(pages.tables.items())], [len(rows), query, list(tables.items())])
+            self.assertEqual([pages.total, pages.query, list(pages.tables.items())],
+                             [len(rows), query, list(tables.items())])
             self.assertTrue(pages.grown == Pages(larger, grown_tables(query, tables, keys)))
             many += larger != query and bool(rows) and good_order(query) is None
         self.assertGreater(many, 20)
@@ -373,8 +379,10 @@ class PagesByKeys(Case):
                 self.assertEqual(pages.span(values), (first, first + some))
                 if size == len(query.shown):
                     behind = [row for row in rows if place(row) > place(values)]
-                    self.assertEqual([pages.position_of(values), values in pages, pages.after(values), pages.ahead_of(values)],
-                                     [first, values in rows, behind[0] if behind else None, rows[first - 1] if first else None])
+                    self.assertEqual([pages.position_of(values), values in pages, pages.after(values),
+                                      pages.ahead_of(values)],
+                                     [first, values in rows, behind[0] if behind else None,
+                                      rows[first - 1] if first else None])
         for number, size in ((0, 1), (1, 2), (2, 3), (0, 1000), (9, 9)):
             self.assertEqual(pages.page(number, size=size), tuple(rows[number * size:number * size + size]))
 
@@ -405,7 +413,8 @@ class PagesByKeys(Case):
             for method in (pages.position_of, pages.after, pages.ahead_of):
                 self.fails(InvalidRow, method, row)
             self.assertFalse(row in pages)
-        for values in ((1, 2, 3, 4), (True,), *odd_except(lambda one: isinstance(one, tuple) and all(map(is_whole, one)))):
+        for values in ((1, 2, 3, 4), (True,),
+                       *odd_except(lambda one: isinstance(one, tuple) and all(map(is_whole, one)))):
             self.fails(InvalidRow, pages.span, values)
         for number in (-1, *odd_except(lambda one: is_whole(one) and one >= 0)):
             self.keeps(InvalidNumber, "value", number, pages.page, number, size=0)

@@ -83,7 +83,8 @@ class Products(Case):
             self.assertEqual(product(first, second), by_words(first, second))
 
     def test_errors(self):
-        wrong = [((2, 1), (1, 1)), ((1, 1), (1, 1)), ((1, 2, 3),), ((1,),), ((1, True),), ([1, 2],), ((1, None),), [(1, 2)],
+        wrong = [((2, 1), (1, 1)), ((1, 1), (1, 1)), ((1, 2, 3),), ((1,),), ((1, True),), ([1, 2],), ((1, None),),
+                 [(1, 2)],
                  tuple((0, number) for number in range(101)), ((1, 2), None), *odd_except(is_relation)]
         for value in wrong:
             self.fails(InvalidRow, product, value, SECOND)
@@ -207,8 +208,10 @@ class Servers(Case):
 
     def test_the_later_column_can_have_the_role_a(self):
         calls = []
-        product_by(chain(4), ("bridge", ("a", "b", "c", "d")), ((1, 7),), ((7, 3),), lambda *told: calls.append(told) or 1)
-        product_by(chain(4), ("bridge", ("d", "c", "b", "a")), ((1, 7),), ((7, 3),), lambda *told: calls.append(told) or 1)
+        product_by(chain(4), ("bridge", ("a", "b", "c", "d")), ((1, 7),),
+                   ((7, 3),), lambda *told: calls.append(told) or 1)
+        product_by(chain(4), ("bridge", ("d", "c", "b", "a")), ((1, 7),),
+                   ((7, 3),), lambda *told: calls.append(told) or 1)
         self.assertEqual([values for _, _, values in calls], [(3, 1), (1, 3)])
 
     def test_a_server_that_changes_what_it_gets(self):

@@ -10,7 +10,8 @@ from pagewise.shapes.rings import is_ring, is_shell, rings, shells
 from pagewise.tables.answers import solutions
 from pagewise.tables.reduced import agree, any_solution, clashing, count_solutions, is_reduced, reduced
 from pagewise.tables.tables import is_tables
-from tests.cases import (BIG, BRIDGE, FAR, LETTERS, RING, ROWS, SHELL, TRIO, Case, odd_except, odd_values, random_queries,
+from tests.cases import (BIG, BRIDGE, FAR, LETTERS, RING, ROWS, SHELL, TRIO, Case, odd_except, odd_values,
+                         random_queries,
                          random_tables, wide_query, wide_tables)
 from tests.test_closed import ring_forms, ring_of, shell_of
 
@@ -25,8 +26,8 @@ COVERED = SHELL.with_atom("s", "c", "a", "b")
 def used(query, tables):
     """The tables of the used rows, by the words of the document."""
     found = list(solutions(query, tables))
-    return {name: tuple(row for row in tables[name] if any(row == tuple(one[column] for column in own) for one in found))
-            for name, own in query.atoms.items()}
+    parts = {name: {tuple(one[column] for column in own) for one in found} for name, own in query.atoms.items()}
+    return {name: tuple(row for row in tables[name] if row in parts[name]) for name in query.atoms}
 
 
 def agree_by_words(query, tables):
@@ -50,7 +51,8 @@ class Agree(Case):
                           agree(FAR, {"r": ((1, 1), (1, 2)), "s": ((1, 5),)})], [False, False])
 
     def test_no_rows_and_no_common_columns(self):
-        self.assertEqual([agree(FAR, NONE), agree(FAR, {"r": (), "s": ((1, 1),)}), agree(FAR, {"r": ((1, 1),), "s": ()})],
+        self.assertEqual([agree(FAR, NONE), agree(FAR, {"r": (), "s": ((1, 1),)}),
+                          agree(FAR, {"r": ((1, 1),), "s": ()})],
                          [True, False, False])
         self.assertEqual([agree(APART, {"p": ((1,), (2,)), "q": ((5,),)}), agree(APART, {"p": (), "q": ()}),
                           agree(APART, {"p": ((1,),), "q": ()}), agree(APART, {"p": (), "q": ((1,),)})],
@@ -75,7 +77,8 @@ class Agree(Case):
 class Reduced(Case):
     def test_ordinary(self):
         self.assertEqual([reduced(FAR, LOOSE), reduced(BRIDGE, ROWS)], [{"r": ((1, 1),), "s": ((1, 5),)}, ROWS])
-        self.assertEqual([is_reduced(BRIDGE, ROWS), is_reduced(FAR, LOOSE), is_reduced(TRIO, NONE)], [True, False, True])
+        self.assertEqual([is_reduced(BRIDGE, ROWS), is_reduced(FAR, LOOSE),
+                         is_reduced(TRIO, NONE)], [True, False, True])
         self.assertEqual(reduced(FAR, {"r": ((1, 1),), "s": ((2, 5),)}), NONE)
         self.assertEqual(reduced(APART, {"p": ((1,), (2,)), "q": ()}), {"p": (), "q": ()})
 
@@ -100,7 +103,8 @@ class Reduced(Case):
                          [{"x": 1, "y": 5, "z": 1}, 5, 1])
         self.assertEqual(list(any_solution(FAR, LOOSE)), ["x", "y", "z"])
         self.assertEqual([any_solution(FAR, NONE), count_solutions(FAR, NONE)], [None, 0])
-        self.assertEqual([any_solution(FAR, {"r": ((1, 1),), "s": ((2, 5),)}), any_solution(APART, {"p": ((BIG,),), "q": ()})],
+        self.assertEqual([any_solution(FAR, {"r": ((1, 1),), "s": ((2, 5),)}),
+                          any_solution(APART, {"p": ((BIG,),), "q": ()})],
                          [None, None])
         self.assertEqual(any_solution(APART, {"p": ((BIG,),), "q": ((-BIG,),)}), {"a": BIG, "b": -BIG})
 
@@ -133,7 +137,8 @@ class Reduced(Case):
     def test_what_is_shown_plays_no_part(self):
         for shown in (("x", "z", "y"), ("x", "y", "z"), ("x", "y"), (), ("y",)):
             query = FAR.with_shown(*shown, down=shown[:1])
-            self.assertEqual([agree(query, ROWS), reduced(query, LOOSE), is_reduced(query, ROWS), count_solutions(query, ROWS)],
+            self.assertEqual([agree(query, ROWS), reduced(query, LOOSE), is_reduced(query, ROWS),
+                              count_solutions(query, ROWS)],
                              [True, {"r": ((1, 1),), "s": ((1, 5),)}, True, 5])
             self.assertEqual(any_solution(query, LOOSE), {"x": 1, "y": 5, "z": 1})
 
@@ -183,7 +188,8 @@ class Clashing(Case):
             "one", "d").with_shown("x", "a")
         for columns in ring_forms(("a", "b", "c", "d")):
             self.check(ring, ("ring", columns))
-        shell = shell_of(4).with_atom("one", "a", "x").with_atom("two", "b", "c", "y").with_atom("none", "x", "y").with_atom(
+        shell = shell_of(4).with_atom("one", "a", "x").with_atom("two", "b", "c", "y").with_atom("none", "x",
+                                                                                                 "y").with_atom(
             "again", "c", "b", "d", "x")
         self.check(shell, ("shell", LETTERS[:4]))
 

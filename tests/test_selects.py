@@ -5,7 +5,8 @@ import itertools
 import random
 import unittest
 
-from pagewise.errors import (InvalidNumber, InvalidOperation, InvalidQuery, InvalidTables, ParseError, TooMany, Unsorted)
+from pagewise.errors import (InvalidNumber, InvalidOperation, InvalidQuery,
+                             InvalidTables, ParseError, TooMany, Unsorted)
 from pagewise.orders.good import good_order
 from pagewise.queries.queries import Query
 from pagewise.shapes.witnesses import is_witness
@@ -90,7 +91,8 @@ class Ordinary(Case):
         self.assertEqual([select.written, select.query, select.fixed, select.same, select.size, select.offset],
                          [FAR, FAR, {}, {}, None, 0])
         self.assertEqual([select(ROWS), select.total_for(ROWS), select.tables_for(ROWS), str(select)],
-                         [((1, 1, 5), (1, 2, 5), (1, 2, 6), (2, 2, 5), (2, 2, 6)), 5, ROWS, f"select {format_query(FAR)}"])
+                         [((1, 1, 5), (1, 2, 5), (1, 2, 6), (2, 2, 5), (2, 2, 6)), 5, ROWS,
+                          f"select {format_query(FAR)}"])
         self.assertEqual(Select(FAR, fixed=None, same=(), size=None, offset=0), Select(FAR, fixed={}))
 
     def test_properties(self):
@@ -102,10 +104,12 @@ class Ordinary(Case):
                          [[("a", 2), ("c", 3), ("d", 1)], [("c", "b"), ("d", "a")]])
 
     def test_equalities_in_a_circle_and_by_several(self):
-        for same in ((("a", "b"), ("b", "c"), ("c", "a")), (("c", "b"), ("a", "c")), (("c", "b"), ("b", "c"), ("b", "a"), ("a", "a")),
+        for same in ((("a", "b"), ("b", "c"), ("c", "a")), (("c", "b"), ("a", "c")),
+                     (("c", "b"), ("b", "c"), ("b", "a"), ("a", "a")),
                      (("b", "a"), ("c", "a"), ("b", "a"))):
             select = Select(LINE, same=same)
-            self.assertEqual([select.same, select.query], [{"b": "a", "c": "a"}, Query(("a", "d"), p=("a",), q=("a",), r=("a", "d"))])
+            self.assertEqual([select.same, select.query], [{"b": "a", "c": "a"}, Query(
+                ("a", "d"), p=("a",), q=("a",), r=("a", "d"))])
         self.assertEqual([Select(LINE, same=(("a", "a"),)).same, Select(LINE, same=(("a", "d"), ("c", "b"))).same],
                          [{}, {"c": "b", "d": "a"}])
         self.assertEqual(Select(LINE, same=(("a", "b"), ("c", "d"), ("b", "d"))).same, {"b": "a", "c": "a", "d": "a"})
@@ -148,8 +152,10 @@ class Ordinary(Case):
         self.assertEqual(list(select.tables_for({"q": (), "p": ()}).items()), [("p", ()), ("q", ())])
 
     def test_a_good_order_by_equalities(self):
-        for query, fixed, same in ((TRIO, {"z": 2}, ()), (TRIO, {"x": 1}, ()), (BRIDGE, {}, (("z", "x"),)), (BRIDGE, {"z": 1}, ()),
-                                   (RING, {"a": 0}, ()), (RING, {}, (("a", "c"),)), (SHELL, {"b": 5}, ()), (SHELL, {}, (("a", "b"),))):
+        for query, fixed, same in ((TRIO, {"z": 2}, ()), (TRIO, {"x": 1}, ()), (BRIDGE, {}, (("z", "x"),)),
+                                   (BRIDGE, {"z": 1}, ()),
+                                   (RING, {"a": 0}, ()), (RING, {}, (("a", "c"),)), (SHELL, {"b": 5}, ()),
+                                   (SHELL, {}, (("a", "b"),))):
             tables = {name: tuple(itertools.product((0, 1, 2), (0, 1, 2, 5))) for name in query.atoms}
             select = Select(query, fixed=fixed, same=same)
             self.assertIsNone(good_order(query))
@@ -178,18 +184,21 @@ class Ranges(Case):
 
     def test_more_than_a_thousand(self):
         query, tables = wide_query(), wide_tables()
-        for size, offset, right in ((1000, 0, 1000), (1000, 10 ** 30 - 3, 3), (None, 10 ** 30 - 1000, 1000), (None, 10 ** 30, 0)):
+        for size, offset, right in ((1000, 0, 1000), (1000, 10 ** 30 - 3, 3), (None, 10 ** 30 - 1000, 1000),
+                                    (None, 10 ** 30, 0)):
             self.assertEqual(len(Select(query, size=size, offset=offset)(tables)), right)
         for offset in (0, 10 ** 30 - 1001):
             select = Select(query, offset=offset)
             self.keeps(TooMany, "limit", 1000, select, tables)
-            self.assertEqual([select.total_for(tables), len(list(itertools.islice(select.rows(tables), 1001)))], [10 ** 30, 1001])
+            self.assertEqual([select.total_for(tables), len(
+                list(itertools.islice(select.rows(tables), 1001)))], [10 ** 30, 1001])
         self.assertEqual(Select(query, fixed={"a": 7}, same=(("c", "b"),), size=2, offset=1)(tables),
                          ((7, 0, 0, 0, 0, 0, 0, 0, 0, 1), (7, 0, 0, 0, 0, 0, 0, 0, 0, 2)))
 
     def test_a_thousand_rows(self):
         tables = {"r": tuple((number,) for number in range(1000))}
-        self.assertEqual([len(Select(LONG)(tables)), len(Select(LONG, size=1000)(tables)), Select(LONG, offset=999)(tables)],
+        self.assertEqual([len(Select(LONG)(tables)), len(Select(LONG, size=1000)(tables)),
+                          Select(LONG, offset=999)(tables)],
                          [1000, 1000, ((999,),)])
 
     def test_rows_one_by_one(self):
@@ -221,9 +230,11 @@ class Compared(Case):
 
     def test_properties(self):
         for _, query, _, fixed, same, select in select_cases(300, seed=1801):
-            alike = {column: [other for other in query.columns if is_alike(same, column, other)] for column in query.columns}
+            alike = {column: [other for other in query.columns if is_alike(
+                same, column, other)] for column in query.columns}
             numbers = {column: [fixed[other] for other in alike[column] if other in fixed] for column in query.columns}
-            self.assertEqual(list(select.fixed.items()), [(column, some[0]) for column, some in numbers.items() if some])
+            self.assertEqual(list(select.fixed.items()), [(column, some[0])
+                             for column, some in numbers.items() if some])
             self.assertEqual(list(select.same.items()), [(column, alike[column][0]) for column in query.columns
                                                          if not numbers[column] and alike[column][0] != column])
 
@@ -234,7 +245,9 @@ class Compared(Case):
             found = Select.read(str(select))
             self.assertTrue(found == select and not found != select)
             self.assertEqual(str(found), str(select))
-            equalities = [f"{column} = {number}" for column, number in fixed.items()] + [f"{one} = {two}" for one, two in same]
+            equalities = [f"{column} = {number}" for column, number in fixed.items()] + \
+                                                                                   [f"{one} = {two}" for one,
+                                                                                    two in same]
             equalities += equalities[:1]
             chance.shuffle(equalities)
             text = f"select {format_query(query)}" + (" where " + " and ".join(equalities) if equalities else "")
@@ -248,14 +261,16 @@ class Texts(Case):
         select = Select.read(text)
         self.assertEqual(select, Select(LINE, fixed={"b": 0, "c": -5}, same=(("a", "b"),), size=0, offset=12))
         self.assertEqual(str(select), f"select {format_query(LINE)} where a = 0 and b = 0 and c = -5 limit 0 offset 12")
-        self.assertEqual([str(Select(LINE, size=1000)), str(Select(LINE, offset=1)), str(Select(LINE, size=None, offset=0))],
+        self.assertEqual([str(Select(LINE, size=1000)), str(Select(LINE, offset=1)),
+                          str(Select(LINE, size=None, offset=0))],
                          [f"select {format_query(LINE)} limit 1000", f"select {format_query(LINE)} offset 1",
                           f"select {format_query(LINE)}"])
         self.assertEqual(str(Select(LINE, fixed={"c": BIG}, same=(("d", "b"), ("b", "a")))),
                          f"select {format_query(LINE)} where b = a and c = {BIG} and d = a")
 
     def test_zero_and_repeated_parts(self):
-        self.assertEqual([Select.read(f"select {format_query(FAR)} offset 0"), Select.read(f"select {format_query(FAR)} limit 1000")],
+        self.assertEqual([Select.read(f"select {format_query(FAR)} offset 0"),
+                          Select.read(f"select {format_query(FAR)} limit 1000")],
                          [Select(FAR), Select(FAR, size=1000)])
         self.assertEqual(Select.read(f"select {format_query(FAR)} where x = 1 and x = 1 and x = z and z = x and z = 1"),
                          Select(FAR, fixed={"x": 1, "z": 1}))
@@ -271,25 +286,37 @@ class Texts(Case):
 
     def test_other_texts(self):
         text = f"select {format_query(FAR)}"
-        wrong = ["", "select", "select ", format_query(FAR), f"SELECT {format_query(FAR)}", f" {text}", f"{text} ", f"{text}\n",
-                 f"select  {format_query(FAR)}", f"select {text}", "select x from r(x", "select x from r(y)", "select x, x from r(x)",
+        wrong = ["", "select", "select ", format_query(FAR), f"SELECT {format_query(FAR)}", f" {text}", f"{text} ",
+                 f"{text}\n",
+                 f"select  {format_query(FAR)}", f"select {text}", "select x from r(x", "select x from r(y)",
+                 "select x, x from r(x)",
                  "select x", "select x from", f"select\n{format_query(FAR)}", f"{text};"]
-        tails = ["where", "where x", "where x =", "where x = ", "where x = 1 and", "where x = 1 and z", "where x == 1", "where x 1",
-                 "where 1 = x", "where 1 = 1", "where w = 1", "where x = w", "where x = 01", "where x = -0", "where x = +1",
-                 "where x = 1.0", "where x=1", "where x = 1, z = 2", "where x = 1 or z = 2", "where x = 1 where z = 2", "and x = 1",
-                 "where x  = 1", "where  x = 1", "where x = 1  and z = 2", "where x = 1 and and z = 2", "where x = z = y",
-                 f"where x = {BIG + 1}", f"where x = -{BIG + 1}", "limit", "limit ", "limit -1", "limit 1001", "limit 01", "limit x",
-                 "limit None", "limit 1 limit 2", "limit 1 where x = 1", "offset", "offset -1", "offset 1 limit 1", "offset 00",
-                 "offset 1 offset 1", f"offset {BIG + 1}", "offset 1 where x = 1", "limit 1 offset", "limit offset 1", "limit 1 1",
-                 "where", "where limit 1", "where x = 1 limit", "where r = 1", "x = 1", "order by x", "where x = 1 ;", "()",
-                 "where x = (1)", "where x = 1)", f"limit {10 ** 39}", "where X = 1", "limit +1", "limit -0", "offset -0"]
+        tails = ["where", "where x", "where x =", "where x = ", "where x = 1 and", "where x = 1 and z", "where x == 1",
+                 "where x 1",
+                 "where 1 = x", "where 1 = 1", "where w = 1", "where x = w", "where x = 01", "where x = -0",
+                 "where x = +1",
+                 "where x = 1.0", "where x=1", "where x = 1, z = 2", "where x = 1 or z = 2", "where x = 1 where z = 2",
+                 "and x = 1",
+                 "where x  = 1", "where  x = 1", "where x = 1  and z = 2", "where x = 1 and and z = 2",
+                 "where x = z = y",
+                 f"where x = {BIG + 1}", f"where x = -{BIG + 1}", "limit", "limit ", "limit -1", "limit 1001",
+                 "limit 01", "limit x",
+                 "limit None", "limit 1 limit 2", "limit 1 where x = 1", "offset", "offset -1", "offset 1 limit 1",
+                 "offset 00",
+                 "offset 1 offset 1", f"offset {BIG + 1}", "offset 1 where x = 1", "limit 1 offset", "limit offset 1",
+                 "limit 1 1",
+                 "where", "where limit 1", "where x = 1 limit", "where r = 1", "x = 1", "order by x", "where x = 1 ;",
+                 "()",
+                 "where x = (1)", "where x = 1)", f"limit {10 ** 39}", "where X = 1", "limit +1", "limit -0",
+                 "offset -0"]
         wrong += [f"{text} {tail}" for tail in tails] + [f"{text} where x = 1{sign}" for sign in ODD_SIGNS]
         wrong += [f"{text} limit 1{sign}" for sign in ODD_SIGNS] + [f"{text} limit {sign}" for sign in ODD_SIGNS]
         for value in (*wrong, *odd_values(), text.encode(), [text], (text,)):
             self.fails(ParseError, Select.read, value)
 
     def test_near_texts(self):
-        for text in (EXAMPLE, "select - from r(x, z) where x = z and z = -1 offset 10", "select x from x(x) where x = x limit 0"):
+        for text in (EXAMPLE, "select - from r(x, z) where x = z and z = -1 offset 10",
+                     "select x from x(x) where x = x limit 0"):
             accepted = 0
             for other in altered(text):
                 try:
@@ -306,7 +333,8 @@ class Texts(Case):
 
     def test_different_integers(self):
         text = f"select {format_query(FAR)} where"
-        for tail in ("x = 1 and x = 2", "x = 1 and z = 2 and x = z", "x = y and y = z and x = 1 and z = 0", "x = z and z = 2 and x = -2"):
+        for tail in ("x = 1 and x = 2", "x = 1 and z = 2 and x = z", "x = y and y = z and x = 1 and z = 0",
+                     "x = z and z = 2 and x = -2"):
             self.fails(InvalidOperation, Select.read, f"{text} {tail}")
             self.fails(ParseError, Select.read, f"{text} {tail} and")
             self.fails(ParseError, Select.read, f"{text} {tail} limit 1001")
@@ -316,11 +344,13 @@ class Errors(Case):
     def test_in_their_order(self):
         for query in odd_except(lambda one: isinstance(one, Query)):
             self.fails(InvalidQuery, Select, query, fixed=1, same=1, size=-1, offset=-1)
-        wrong = ([("x", 1)], {"w": 1}, {"x": True}, {"x": "z"}, {"x": None}, {1: 1}, {"r": 1}, {("x",): 1}, {"x": 1, "w": 1},
+        wrong = ([("x", 1)], {"w": 1}, {"x": True}, {"x": "z"}, {"x": None}, {1: 1}, {"r": 1}, {("x",): 1},
+                 {"x": 1, "w": 1},
                  *odd_except(lambda one: one is None or one == {} and isinstance(one, dict) or one == {"x": 1}))
         for fixed in wrong:
             self.fails(InvalidOperation, Select, FAR, fixed=fixed, same=(("x", "z"),), size=-1)
-        wrong = (("x", "z"), [("x", "z")], (("x",),), (("x", "z", "y"),), (("x", "w"),), (["x", "z"],), (("x", 1),), (("x", "z"), None),
+        wrong = (("x", "z"), [("x", "z")], (("x",),), (("x", "z", "y"),), (("x", "w"),), (["x", "z"],), (("x", 1),),
+                 (("x", "z"), None),
                  (("r", "x"),), (("x", ["z"]),), None, *odd_except(lambda one: one == ()))
         for same in wrong:
             self.fails(InvalidOperation, Select, FAR, same=same, size=-1, offset=-1)
@@ -329,7 +359,8 @@ class Errors(Case):
             self.keeps(InvalidNumber, "value", size, Select, FAR, fixed={"x": 1, "z": 2}, same=(("x", "z"),), size=size)
         for offset in (-1, *odd_except(lambda one: is_whole(one) and one >= 0)):
             self.keeps(InvalidNumber, "value", offset, Select, FAR, offset=offset)
-            self.keeps(InvalidNumber, "value", offset, Select, FAR, fixed={"x": 1, "z": 2}, same=(("x", "z"),), offset=offset)
+            self.keeps(InvalidNumber, "value", offset, Select, FAR, fixed={
+                       "x": 1, "z": 2}, same=(("x", "z"),), offset=offset)
 
     def test_different_integers(self):
         for fixed, same in (({"x": 1, "z": 2}, (("x", "z"),)), ({"x": 1, "y": 0}, (("x", "z"), ("z", "y"))),
@@ -339,7 +370,8 @@ class Errors(Case):
 
     def test_wrong_tables(self):
         for select in (Select(FAR), Select(TRIO), Select(FAR, fixed={"z": 2}, size=0)):
-            for tables in (select.query.atoms, {"r": ((1,),), "s": ((5,),)}, {"r": ()}, {"r": ((2, 1), (1, 1)), "s": ()},
+            for tables in (select.query.atoms, {"r": ((1,),), "s": ((5,),)}, {"r": ()},
+                           {"r": ((2, 1), (1, 1)), "s": ()},
                            *odd_except(lambda one: one == ROWS)):
                 for call in (select, select.tables_for, select.total_for, lambda one: next(select.rows(one))):
                     self.fails(InvalidTables, call, tables)
@@ -362,8 +394,10 @@ class States(Case):
         self.assertTrue(select == Select(FAR, fixed={"z": 1, "x": 1}, size=3, offset=1))
         self.assertFalse(select != Select(FAR, fixed={"z": 1}, same=(("z", "x"),), size=3, offset=1))
         for other in (Select(FAR, fixed={"x": 1, "z": 1}, size=3), Select(FAR, fixed={"x": 1, "z": 1}, offset=1),
-                      Select(FAR, fixed={"x": 1, "z": 1}, size=2, offset=1), Select(FAR, fixed={"x": 1}, size=3, offset=1),
-                      Select(~FAR, fixed={"x": 1, "z": 1}, size=3, offset=1), Select(FAR, same=(("x", "z"),), size=3, offset=1),
+                      Select(FAR, fixed={"x": 1, "z": 1}, size=2, offset=1), Select(
+                          FAR, fixed={"x": 1}, size=3, offset=1),
+                      Select(~FAR, fixed={"x": 1, "z": 1}, size=3, offset=1), Select(
+                          FAR, same=(("x", "z"),), size=3, offset=1),
                       select.query, str(select), *odd_values()):
             self.assertTrue(select != other and not select == other)
 

@@ -11,7 +11,7 @@ from pagewise.errors import (InvalidCommand, InvalidEdit, InvalidNumber, Invalid
 from pagewise.tables.answers import answers
 from pagewise.text.formats import format_query, parse_query
 from pagewise.text.shell import Shell
-from tests.cases import BIG, BRIDGE, FAR, LETTERS, ROWS, TRIO, Case, odd_except, odd_values, wide_query
+from tests.cases import BIG, BRIDGE, FAR, LETTERS, ROWS, TRIO, Case, odd_except, wide_query
 from tests.test_desk import everything
 from tests.test_formats import ODD_SIGNS
 
@@ -45,32 +45,42 @@ class Ordinary(Shells):
         shell = Shell()
         lines = ("table r 2", "put r 1 2", "put r 1 3", "view v x, z desc from r(x, z)", "count v", "row v 0")
         self.assertEqual(list(shell.run_all(lines)), ["ok", "ok", "ok", "ok", "2", "1 3"])
-        self.assertEqual([shell.run(line) for line in ("page v 0 10", "place v 1 2", "paper v", "starts v 7", "page v 1 10")],
+        self.assertEqual([shell.run(line) for line in ("page v 0 10", "place v 1 2", "paper v", "starts v 7",
+                                                       "page v 1 10")],
                          ["1 3; 1 2", "1", "order x z", "0", "-"])
-        self.assertEqual([shell.run(line) for line in ("undo 2", "names", "show r", "select z from r(x, z) where x = 1")],
+        self.assertEqual([shell.run(line) for line in ("undo 2", "names", "show r",
+                                                       "select z from r(x, z) where x = 1")],
                          ["ok", "r", "1 2", "2"])
         self.assertEqual([len(shell), shell.log[:6], shell.log[-1]], [15, lines, "select z from r(x, z) where x = 1"])
 
     def test_edits(self):
         shell = Shell()
-        self.assertEqual([shell.run(line) for line in ("table t 3", "put t 1 -2 3", "put t 0 0 0", "drop t 1 -2 3", "drop t 7 7 7",
-                                                       "view v b, a from t(a, b, c)", "rename t q", "rename v w")], ["ok"] * 8)
+        self.assertEqual([shell.run(line) for line in ("table t 3", "put t 1 -2 3", "put t 0 0 0", "drop t 1 -2 3",
+                                                       "drop t 7 7 7",
+                                                       "view v b, a from t(a, b, c)", "rename t q", "rename v w")],
+                                                       ["ok"] * 8)
         desk = Desk()
         for edit in (("table", "t", 3), ("put", "t", (1, -2, 3)), ("put", "t", (0, 0, 0)), ("drop", "t", (1, -2, 3)),
                      ("drop", "t", (7, 7, 7)), ("view", "v", parse_query("b, a from t(a, b, c)")), ("rename", "t", "q"),
                      ("rename", "v", "w")):
             desk.do(edit)
         self.assertEqual(everything(shell.desk), everything(desk))
-        self.assertEqual([shell.run("forget w"), shell.run("forget q"), shell.run("names"), shell.desk.steps], ["ok", "ok", "-", 10])
-        self.assertEqual([shell.run("undo 2"), shell.run("names"), shell.run("redo 1"), shell.run("names"), shell.run("undo 0"),
+        self.assertEqual([shell.run("forget w"), shell.run("forget q"),
+                         shell.run("names"), shell.desk.steps], ["ok", "ok", "-", 10])
+        self.assertEqual([shell.run("undo 2"), shell.run("names"), shell.run("redo 1"), shell.run("names"),
+                          shell.run("undo 0"),
                           shell.run("redo 0")], ["ok", "q w", "ok", "q", "ok", "ok"])
 
     def test_what_is_shown(self):
         shell = far_shell()
-        self.assertEqual([shell.run("names"), shell.run("show r"), shell.run("show s"), shell.run("show far"), shell.run("show none")],
-                         ["far none pair r s trio", "1 1; 1 2; 2 2", "1 5; 2 5; 2 6", format_query(FAR), "- from r(x, z), s(z, y)"])
-        self.assertEqual([shell.run("table empty 1"), shell.run("show empty"), shell.run("put empty -10"), shell.run("put empty -9"),
-                          shell.run("put empty 3"), shell.run("show empty")], ["ok", "-", "ok", "ok", "ok", "-10; -9; 3"])
+        self.assertEqual([shell.run("names"), shell.run("show r"), shell.run("show s"), shell.run("show far"),
+                          shell.run("show none")],
+                         ["far none pair r s trio", "1 1; 1 2; 2 2", "1 5; 2 5; 2 6", format_query(FAR),
+                          "- from r(x, z), s(z, y)"])
+        self.assertEqual([shell.run("table empty 1"), shell.run("show empty"), shell.run("put empty -10"),
+                          shell.run("put empty -9"),
+                          shell.run("put empty 3"), shell.run("show empty")],
+                          ["ok", "-", "ok", "ok", "ok", "-10; -9; 3"])
         self.assertEqual([Shell().run("names"), shell.run(f"view far {format_query(~FAR)}"), shell.run("show far")],
                          ["-", "ok", "x desc, z desc, y desc from r(x, z), s(z, y)"])
 
@@ -82,12 +92,16 @@ class Ordinary(Shells):
 
     def test_pages(self):
         shell = far_shell()
-        self.assertEqual([shell.run(line) for line in ("row far 0", "row far 4", "place far 1 2 6", "place far 9 9 9", "place far -1 0 0",
-                                                       "starts far", "starts far 1", "starts far 1 2", "starts far 1 2 5",
+        self.assertEqual([shell.run(line) for line in ("row far 0", "row far 4", "place far 1 2 6", "place far 9 9 9",
+                                                       "place far -1 0 0",
+                                                       "starts far", "starts far 1", "starts far 1 2",
+                                                       "starts far 1 2 5",
                                                        "page far 0 2", "page far 1 2", "page far 2 2", "page far 3 2",
-                                                       "page far 0 1000", "row none 0", "place none", "starts none", "page none 0 1",
+                                                       "page far 0 1000", "row none 0", "place none", "starts none",
+                                                       "page none 0 1",
                                                        "page none 1 1")],
-                         ["1 1 5", "2 2 6", "2", "5", "0", "5", "3", "2", "1", "1 1 5; 1 2 5", "1 2 6; 2 2 5", "2 2 6", "-",
+                         ["1 1 5", "2 2 6", "2", "5", "0", "5", "3", "2", "1", "1 1 5; 1 2 5", "1 2 6; 2 2 5", "2 2 6",
+                          "-",
                           "1 1 5; 1 2 5; 1 2 6; 2 2 5; 2 2 6", "()", "0", "1", "()", "-"])
 
     def test_selects(self):
@@ -201,17 +215,28 @@ class Lines(Shells):
 class Errors(Shells):
     def test_lines_that_are_no_commands(self):
         shell = far_shell()
-        lines = ["", " ", "none", "Names", "names ", " names", "names far", "names\n", "\nnames", "show", "show r s", "show  r", "show R",
-                 "show r1", "show ninechars", "table", "table t", "table t x", "table t -1", "table t +1", "table t 01", "table t 1 1",
-                 "table 1 t", "table T 1", "table t 1 ", "put", "put R 1 2", "put r x", "put r 1 x", "put r 1  2", "put r 1 2 ",
-                 "put r -0 1", "put r 1, 2", "put r 1 2\n", "drop", "drop r 1 01", "drop 1 r", "view", "view v", "view V x from r(x, z)",
-                 "view v ", "view  v x from r(x, z)", "view v x  from r(x, z)", "forget", "forget r s", "forget R", "forget r ",
-                 "rename r", "rename r q q", "rename r Q", "rename R q", "rename r 1", "undo", "undo -1", "undo x", "undo 1 1", "undo 01",
-                 "undo +1", "redo", "redo -1", "redo 1 2", "redo one", "count", "count far far", "count Far", "paper", "paper far 1",
-                 "row", "row far", "row far -1", "row far x", "row far 0 0", "place", "place far x", "place 1 2", "place far 1.0",
-                 "starts", "starts far x", "starts Far", "page", "page far", "page far 0", "page far 0 x", "page far -1 1",
-                 "page far 0 -1", "page far 0 1 1", "page far 00 1", "select", "select ", "select  x from r(x, z)", "SELECT x",
-                 "select x from r(x, z) ", "select x  from r(x, z)", f"undo {BIG + 1}", f"put r 1 {BIG + 1}", "table t 1;", "help",
+        lines = ["", " ", "none", "Names", "names ", " names", "names far", "names\n", "\nnames", "show", "show r s",
+                 "show  r", "show R",
+                 "show r1", "show ninechars", "table", "table t", "table t x", "table t -1", "table t +1",
+                 "table t 01", "table t 1 1",
+                 "table 1 t", "table T 1", "table t 1 ", "put", "put R 1 2", "put r x", "put r 1 x", "put r 1  2",
+                 "put r 1 2 ",
+                 "put r -0 1", "put r 1, 2", "put r 1 2\n", "drop", "drop r 1 01", "drop 1 r", "view", "view v",
+                 "view V x from r(x, z)",
+                 "view v ", "view  v x from r(x, z)", "view v x  from r(x, z)", "forget", "forget r s", "forget R",
+                 "forget r ",
+                 "rename r", "rename r q q", "rename r Q", "rename R q", "rename r 1", "undo", "undo -1", "undo x",
+                 "undo 1 1", "undo 01",
+                 "undo +1", "redo", "redo -1", "redo 1 2", "redo one", "count", "count far far", "count Far", "paper",
+                 "paper far 1",
+                 "row", "row far", "row far -1", "row far x", "row far 0 0", "place", "place far x", "place 1 2",
+                 "place far 1.0",
+                 "starts", "starts far x", "starts Far", "page", "page far", "page far 0", "page far 0 x",
+                 "page far -1 1",
+                 "page far 0 -1", "page far 0 1 1", "page far 00 1", "select", "select ", "select  x from r(x, z)",
+                 "SELECT x",
+                 "select x from r(x, z) ", "select x  from r(x, z)", f"undo {BIG + 1}", f"put r 1 {BIG + 1}",
+                 "table t 1;", "help",
                  "do", "width r", "names names", "show\nr", "show r\n", "table\tt 1"]
         lines += [f"table t 1{sign}" for sign in ODD_SIGNS] + [f"put r 1 {sign}" for sign in ODD_SIGNS]
         lines += [f"show r{sign}" for sign in ODD_SIGNS if sign.islower() or sign in "_A+"]
@@ -220,17 +245,20 @@ class Errors(Shells):
 
     def test_texts_that_are_none(self):
         shell = far_shell()
-        for text in ("x", "x from", "x from r(x)x", "x, from r(x, z)", "- from r(x, x)", "x from r(x,z)", "x\nfrom r(x, z)", "1",
+        for text in ("x", "x from", "x from r(x)x", "x, from r(x, z)", "- from r(x, x)", "x from r(x,z)",
+                     "x\nfrom r(x, z)", "1",
                      "select x from r(x, z)", "x from r(x, z) where x = 1", "x from s(x), r(x)"):
             self.stays(ParseError, shell, f"view v {text}")
             self.stays(ParseError, shell, f"view far {text}")
-        for text in ("x", "x from r(x)x", "x from r(x, z) where", "x from r(x, z) limit 1001", "x from r(x, z) where x = 01",
+        for text in ("x", "x from r(x)x", "x from r(x, z) where", "x from r(x, z) limit 1001",
+                     "x from r(x, z) where x = 01",
                      "x from r(x, z)\n", "x from q(x) where x = 1 and x = 2 and", "x from r(x, z) offset -1"):
             self.stays(ParseError, shell, f"select {text}")
 
     def test_edits_that_are_not_possible(self):
         shell = far_shell()
-        for line in ("table t 0", "table t 11", "table r 2", "table far 1", "put r", "put r 1", "put r 1 2 3", "put t 1", "put far 1 2",
+        for line in ("table t 0", "table t 11", "table r 2", "table far 1", "put r", "put r 1", "put r 1 2 3",
+                     "put t 1", "put far 1 2",
                      "drop r", "drop r 1", "drop far 1", "put r 1 2 3 4 5 6 7 8 9 10 11", "forget r", "forget zzz",
                      "rename r s", "rename r far", "rename t q", "view r x from s(x, z)", "view v x from r(x)",
                      "view v x from t(x)", "view v x from far(x, z, y)", f"table t {BIG}"):
@@ -270,7 +298,8 @@ class Errors(Shells):
         for line, number in (("row far 5", 5), (f"row far {BIG}", BIG), ("page far 0 0", 0), ("page far 9 1001", 1001),
                              ("row none 1", 1)):
             self.stays_keeping(InvalidNumber, "value", number, shell, line)
-        for line in ("place far", "place far 1 2", "place far 1 2 3 4", "starts far 1 2 3 4", "place none 1", "starts none 1",
+        for line in ("place far", "place far 1 2", "place far 1 2 3 4", "starts far 1 2 3 4", "place none 1",
+                     "starts none 1",
                      "place far " + " ".join("1" * 11)):
             self.stays(InvalidRow, shell, line)
 
@@ -286,7 +315,8 @@ class Errors(Shells):
         self.stays(InvalidTables, shell, "select x, y from one(x), r(x, z, y), s(z, y)")
         # The columns of the atoms are checked ahead of the witness that this query has, too.
         self.stays(InvalidTables, shell, "select x, y, z from one(w, x), r(x, z), s(z, y)")
-        self.stays_keeping(Unsorted, "witness", ("trio", ("x", "y", "z")), shell, "select x, y, z from r(x, z), s(z, y)")
+        self.stays_keeping(Unsorted, "witness", ("trio", ("x", "y", "z")),
+                           shell, "select x, y, z from r(x, z), s(z, y)")
         for number in range(1000):
             shell.run(f"put one {number}")
         self.stays_keeping(TooMany, "limit", 1000, shell, "select a, x from one(a), r(x, z)")

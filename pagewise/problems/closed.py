@@ -23,7 +23,7 @@ def full_choice(faces):
     """Return the least full choice of the faces, or None."""
     check_many_inputs(faces)
     check_faces(faces)
-    known = [{row: True for row in face} for face in faces]
+    known = [{one: True for one in face} for face in faces]
     middle = list(range(len(faces) - 2))
     # The last face tells all integers but the last one, and the first face tells which ones can stand behind them.
     ends = grouped(faces[0], middle, [len(middle)])
